@@ -1,0 +1,255 @@
+"""What the tests share: exact numbers of their own to compare with, made rows, wrong values, and refusals."""
+
+import copy
+from fractions import Fraction
+from math import gcd
+
+
+class Pair:
+    """A number re + im i of Fractions: the tests' own arithmetic, apart from the package's."""
+
+    def __init__(self, re, im=0):
+        self.re, self.im = Fraction(re), Fraction(im)
+
+    def __add__(self, other):
+        return Pair(self.re + other.re, self.im + other.im)
+
+    def __sub__(self, other):
+        return Pair(self.re - other.re, self.im - other.im)
+
+    def __mul__(self, other):
+        return Pair(self.re * other.re - self.im * other.im, self.re * other.im + self.im * other.re)
+
+    def __truediv__(self, other):
+        under = other.size()
+        above = self * other.mirrored()
+        return Pair(above.re / under, above.im / under)
+
+    def __eq__(self, other):
+        return self.re == other.re and self.im == other.im
+
+    def mirrored(self):
+        return Pair(self.re, -self.im)
+
+    def size(self):
+        return self.re * self.re + self.im * self.im
+
+    def number(self):
+        return (told(self.re), told(self.im))
+
+
+def told(fraction):
+    """A Fraction as a fraction of the package."""
+    return (fraction.numerator, fraction.denominator)
+
+
+def frac(fraction):
+    """A fraction of the package as a Fraction."""
+    return Fraction(fraction[0], fraction[1])
+
+
+def pair(number):
+    """A NUMBER as a Pair."""
+    return Pair(frac(number[0]), frac(number[1]))
+
+
+def num(re, im=0):
+    """The NUMBER re + im i of whole numbers or Fractions."""
+    return Pair(re, im).number()
+
+
+def row(*numbers):
+    """A ROW of whole numbers, Fractions, Pairs and NUMBERs, noughts at the end kept."""
+    return tuple(as_number(each) for each in numbers)
+
+
+def as_number(each):
+    if isinstance(each, Pair):
+        return each.number()
+    if isinstance(each, tuple):
+        return each
+    return num(each)
+
+
+def real(*fractions):
+    """A REAL ROW of whole numbers and Fractions."""
+    return tuple(told(Fraction(each)) for each in fractions)
+
+
+def cut(pairs):
+    """The ROW of a list of Pairs."""
+    pairs = list(pairs)
+    while pairs and pairs[-1] == Pair(0):
+        pairs.pop()
+    return tuple(each.number() for each in pairs)
+
+
+def value_of(some_row, at):
+    """The value of a ROW at a Pair, power by power."""
+    total, power = Pair(0), Pair(1)
+    for each in some_row:
+        total = total + pair(each) * power
+        power = power * at
+    return total
+
+
+def times_rows(one, other):
+    """The product of two ROWs, by the tests' own arithmetic."""
+    if not one or not other:
+        return ()
+    total = [Pair(0)] * (len(one) + len(other) - 1)
+    for i, x in enumerate(one):
+        for j, y in enumerate(other):
+            total[i + j] = total[i + j] + pair(x) * pair(y)
+    return cut(total)
+
+
+def from_roots(roots, last=1):
+    """The ROW with these roots (Pairs, whole numbers, Fractions or NUMBERs) and this last number."""
+    made = (as_number(last),)
+    for root in roots:
+        made = times_rows(made, row(Pair(0) - pair(as_number(root)), 1))
+    return made
+
+
+def times_reals(one, other):
+    """The product of two REAL ROWs."""
+    if not one or not other:
+        return ()
+    total = [Fraction(0)] * (len(one) + len(other) - 1)
+    for i, x in enumerate(one):
+        for j, y in enumerate(other):
+            total[i + j] += frac(x) * frac(y)
+    return tuple(told(each) for each in total)
+
+
+def real_from_roots(roots, last=1):
+    """The REAL ROW with these roots and this last fraction."""
+    made = (told(Fraction(last)),)
+    for root in roots:
+        made = times_reals(made, real(-Fraction(root), 1))
+    return made
+
+
+def real_value_of(some, at):
+    """The value of a REAL ROW at a Fraction, as a Fraction."""
+    return sum((frac(each) * at ** k for k, each in enumerate(some)), Fraction(0))
+
+
+def rim(x):
+    """The rim number of a whole number or a Fraction, as a Pair."""
+    return Pair(1, x) / Pair(1, -Fraction(x))
+
+
+def reduced_fraction(value):
+    """Whether a value is a pair of whole numbers, reduced, the lower one above 0."""
+    return (type(value) is tuple and len(value) == 2 and all(type(each) is int for each in value)
+            and value[1] > 0 and gcd(value[0], value[1]) == 1)
+
+
+def reduced_number(value):
+    """Whether a value is a pair of reduced fractions."""
+    return type(value) is tuple and len(value) == 2 and all(reduced_fraction(each) for each in value)
+
+
+def some_fraction(source, top=9, bottom=6):
+    """Any Fraction of a random source."""
+    return Fraction(source.randint(-top, top), source.randint(1, bottom))
+
+
+def some_pair(source, top=9, bottom=6):
+    """Any Pair of a random source."""
+    return Pair(some_fraction(source, top, bottom), some_fraction(source, top, bottom))
+
+
+def some_row(source, most):
+    """Any ROW of up to so many NUMBERs."""
+    return cut([some_pair(source) for _ in range(source.randint(0, most))])
+
+
+def nested(deep):
+    """A tuple in tuples, so many deep."""
+    value = 1
+    for _ in range(deep):
+        value = (value,)
+    return value
+
+
+# No fractions, NUMBERs, ROWs, TABLEs, QUOTIENTs or whole numbers, whatever is asked for; and what is nearly one.
+STRANGE = (
+    None, "", "1", "1/2", b"", b"12", [], [1, 1], [(1, 1), (0, 1)], {}, {0: (1, 1)}, {(0, 1): 1}, set(), {1, 2},
+    frozenset((1, 2)), range(2), object(), len, Fraction(1, 2), nested(20), (None,), (None, None), ("1", "2"),
+    ([1, 1], [0, 1]), ({}, {}), (1, None), (1, [2]), ((1, 1), None), ((1, 1), "0"), (((1, 1), (0, 1)), None),
+)
+BOOLS = (True, False)
+WRONG_WHOLES = STRANGE + BOOLS + ((1, 1), (), ((0, 1), (0, 1)))
+WRONG_FRACTIONS = STRANGE + BOOLS + (
+    0, 1, -7, (), (1,), (1, 1, 1), (1, 0), (0, 0), (1, -2), (-1, -2), (0, 2), (2, 4), (3, 3), (6, -4), (True, 1),
+    (1, True), (False, 1), (True, True), (1, 2, 3), [1, 2], ((1, 1), (0, 1)), ((1, 1),), ("1", 1), (1, "2"), (1, (2,)),
+    (10 ** 200, 10 ** 100),
+)
+WRONG_BOUNDS = WRONG_FRACTIONS + ((0, 1), (-1, 1), (-1, 10 ** 50))
+WRONG_NUMBERS = STRANGE + BOOLS + (
+    0, 1, (), (1, 1), (0, 1), ((1, 1),), ((1, 1), (0, 1), (0, 1)), ((1, 1), (0, 2)), ((2, 2), (0, 1)), ((1, 0), (0, 1)),
+    ((1, 1), 0), (1, (0, 1)), ((1, 1), [0, 1]), [(1, 1), (0, 1)], ((True, 1), (0, 1)), ((1, 1), (False, 1)),
+    ((1, 1), (1, -1)), (((1, 1), (0, 1)),), ((1, 1), (0, 1, 1)),
+)
+ONE = ((1, 1), (0, 1))
+WRONG_ROWS = STRANGE + BOOLS + (
+    0, 1, (1, 1), ONE, [ONE], (ONE, [ONE]), (ONE, num(0)), (num(0),), (num(0), num(0)), (ONE, (1, 1)), (1, ONE),
+    (ONE, ((2, 2), (0, 1))), (ONE, None), (ONE, True), ((ONE, ONE),), (((1, 1), (0, 1), (0, 1)),), (((True, 1), (0, 1)),),
+)
+WRONG_REALS = STRANGE + BOOLS + (
+    0, 1, (1, 1), ONE, [(1, 1)], ((1, 1), [1, 1]), ((1, 1), (0, 1)), ((0, 1),), ((2, 2),), ((1, 1), (2, 4)), ((1, 0),),
+    ((1, 1), 1), (1,), (ONE,), ((1, 1), None), ((1, 1), True), ((True, 1),), ((1, 1), (1, -1)),
+)
+WRONG_NUMBER_TUPLES = tuple((each, None) for each in STRANGE if type(each) is not tuple) + (
+    (True, None), (0, None), ([ONE], None), ((1,), 0), ((ONE, 1), 1), ((ONE, ONE, (1, 1), None), 2), ((None,), 0),
+    ((ONE, ((2, 2), (0, 1))), 1), ((ONE, True), 1), (("ab",), 0), (nested(20), 0), ((ONE, [ONE]), 1), (ONE, 0),
+)
+
+
+def given(error, values):
+    """What a parameter refuses: the error, its attribute, and pairs of a wrong value and what the attribute is."""
+    return (error, "given", tuple((value, value) for value in values))
+
+
+def indexed(error, pairs):
+    """Likewise, for an error with an index."""
+    return (error, "index", tuple(pairs))
+
+
+def same(one, other):
+    """Whether two values are one, or alike with the same kinds of values in them."""
+    return one is other or (type(one) is type(other) and one == other)
+
+
+def refused(case, error, attribute, expected, call, *args, **named):
+    """Assert that a call raises just this error, with this attribute (None: without one)."""
+    kept = [copy.copy(each) if isinstance(each, (list, dict, set)) else each for each in args]
+    told_as = f"{getattr(call, '__name__', call)}{args!r}"[:300]
+    try:
+        answer = call(*args, **named)
+    except ValueError as caught:
+        case.assertIs(type(caught), error, told_as)
+        if attribute is not None:
+            case.assertTrue(same(getattr(caught, attribute), expected), told_as)
+    else:
+        case.fail(f"{told_as} {named!r} returned {answer!r}"[:600])
+    for one, other in zip(kept, args):
+        case.assertEqual(one, other)
+
+
+def check_refusals(case, call, parameters):
+    """Try each wrong value at each place, alone and ahead of wrong ones behind it, by position and by name.
+
+    parameters: tuples of a name, what it refuses (given, indexed), and a right value.
+    """
+    rights = [right for _, _, right in parameters]
+    for at, (_, (error, attribute, pairs), _) in enumerate(parameters):
+        for value, expected in pairs:
+            args = rights[:at] + [value] + rights[at + 1:]
+            refused(case, error, attribute, expected, call, *args)
+            refused(case, error, attribute, expected, call, **dict(zip([each[0] for each in parameters], args)))
+            behind = [wrong[2][0][0] for _, wrong, _ in parameters[at + 1:]]
+            refused(case, error, attribute, expected, call, *(rights[:at] + [value] + behind))

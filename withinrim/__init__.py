@@ -1,0 +1,1 @@
+"""Series that nowhere in the disc are above one, through told values."""
