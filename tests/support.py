@@ -207,6 +207,108 @@ WRONG_NUMBER_TUPLES = tuple((each, None) for each in STRANGE if type(each) is no
     (True, None), (0, None), ([ONE], None), ((1,), 0), ((ONE, 1), 1), ((ONE, ONE, (1, 1), None), 2), ((None,), 0),
     ((ONE, ((2, 2), (0, 1))), 1), ((ONE, True), 1), (("ab",), 0), (nested(20), 0), ((ONE, [ONE]), 1), (ONE, 0),
 )
+HALF = num(Fraction(1, 2))
+WRONG_QUOTIENTS = STRANGE + BOOLS + (
+    0, (), ((), ()), (ONE, ONE), ((ONE,),), ((ONE,), (ONE,), (ONE,)), [(ONE,), (ONE,)], ([ONE], (ONE,)), ((ONE,), [ONE]),
+    ((ONE,), ()), ((), (HALF,)), ((), (ONE, ONE)), ((ONE,), (num(2),)), ((ONE,), (num(0), ONE)), ((ONE,), (num(-1),)),
+    ((num(0),), (ONE,)), ((ONE,), (ONE, num(0))), ((ONE, ONE), (ONE, ONE)), ((num(2), num(2)), (ONE, ONE)),
+    (row(-1, 0, 1), row(1, 1)), (row(0, 1, 1), row(1, 0, -1)), ((ONE,), (num(0, 1),)), ((ONE,), ONE), (None, (ONE,)),
+    ((ONE,), (True,)), (((True, 1), (0, 1)), (ONE,)), (((ONE,), (ONE,)), (ONE,)),
+)
+WRONG_TABLES = tuple((each, None) for each in STRANGE if type(each) is not tuple) + (
+    (True, None), (0, None), ((1, 2), 0), ([(ONE,)], None), ((row(1, 0, 0, 0, 0, 0, 0),) * 7, None), ((None,) * 7, None),
+    (nested(20), 0), ((None,), 0), (([ONE],), 0), ((ONE,), 0), (((),), 0), ((row(1, 1),), 0), ((row(Pair(0, 1)),), 0),
+    ((row(1, 1), row(1, 1), ()), 0), ((row(1, 0), row(1)), 1), ((row(1, 0), [num(0), ONE]), 1), ((row(1, 0), None), 1),
+    ((row(1, 2), row(3, 1)), 1), ((row(1, Pair(0, 1)), row(Pair(0, 1), 1)), 1), ((row(1, 0), row(0, Pair(1, 1))), 1),
+    ((row(1, 0), (num(0), True)), 1), ((row(1, 0), (num(0), ((2, 2), (0, 1)))), 1), ((row(1, 0), (0, 1)), 1),
+    ((row(1, 0, 0), row(0, 1, 0), row(0, 1, 1)), 2), ((row(1, 0, 5), row(0, 1, 0), row(0, 0, 1)), 2),
+    ((row(1, 0, 5), row(0, 1, 0), row(5, 0)), 2), ((row(Pair(1, 1), 0), None), 0), ((row(0, 1), (num(0, 1), num(0))), 1),
+)
+
+
+def wrong_mixes_of(many, right):
+    """What is no mix of so many, with the index; right is one."""
+    return tuple((each, None) for each in STRANGE if type(each) is not tuple) + (
+        (True, None), (0, None), (list(right), None), (right + (ONE,), None), (right[:-1], None), (ONE * many, None),
+        ((None,) * many, 0), (right[:-1] + (None,), many - 1), (right[:-1] + (True,), many - 1),
+        (right[:-1] + ((1, 1),), many - 1), (right[:-1] + ([ONE],), many - 1), (nested(20) + right[1:], 0),
+        (right[:-1] + (((2, 2), (0, 1)),), many - 1), ((1,) + right[1:-1] + (2,), 0),
+    )
+
+
+def wrong_lots_of_mixes(right):
+    """What is no tuple of up to 6 mixes, with the index; right is a mix."""
+    return tuple((each, None) for each in STRANGE if type(each) is not tuple) + (
+        (True, None), (7, None), ([right], None), ((right,) * 7, None), ((None,) * 7, None), ((None,), 0),
+        ((right, list(right)), 1), ((right, right + (ONE,)), 1), ((right, right[:-1], None), 1), ((right, ()), 1),
+        ((right,) * 5 + (right[:-1] + (True,),), 5), (right, 0), (((2, 1),), 0), ((right, nested(19)), 1),
+    )
+
+
+def plain_table(rows):
+    """The TABLE of rows of Pairs."""
+    return tuple(tuple(each.number() for each in some) for some in rows)
+
+
+def made_by(squares, many):
+    """The TABLE of so many rows that pairs of a weight and a mix make, by the tests' own arithmetic."""
+    total = [[Pair(0)] * many for _ in range(many)]
+    for weight, mix in squares:
+        for i in range(many):
+            for j in range(many):
+                total[i][j] = total[i][j] + Pair(frac(weight)) * pair(mix[i]) * pair(mix[j]).mirrored()
+    return plain_table(total)
+
+
+def out_of(table, mix, other=None):
+    """What a mix comes out as in a TABLE, alone or with another one, as a Pair."""
+    total = Pair(0)
+    for i, x in enumerate(mix):
+        for j, y in enumerate(mix if other is None else other):
+            total = total + pair(x) * pair(table[i][j]) * pair(y).mirrored()
+    return total
+
+
+def rank_of_rows(rows):
+    """How many rows are independent, by the tests' own arithmetic."""
+    rows, rank = [[pair(each) for each in some] for some in rows], 0
+    for column in range(len(rows[0]) if rows else 0):
+        lead = next((k for k in range(rank, len(rows)) if rows[k][column].size() != 0), None)
+        if lead is None:
+            continue
+        rows[rank], rows[lead] = rows[lead], rows[rank]
+        for k in range(rank + 1, len(rows)):
+            factor = rows[k][column] / rows[rank][column]
+            rows[k] = [x - factor * y for x, y in zip(rows[k], rows[rank])]
+        rank += 1
+    return rank
+
+
+def some_mix(source, many, top=3):
+    """Any mix of so many."""
+    return tuple(some_pair(source, top, 3).number() for _ in range(many))
+
+
+def some_table(source, many, signs):
+    """A TABLE of so many rows with the counts of a list of signs, and these counts."""
+    while True:
+        mixes = [some_mix(source, many) for _ in signs]
+        if rank_of_rows(mixes) == len(mixes):
+            break
+    squares = [(told(sign * Fraction(source.randint(1, 5), source.randint(1, 4))), mix) for sign, mix in zip(signs, mixes)]
+    above = sum(1 for sign in signs if sign > 0)
+    return made_by(squares, many), (above, many - len(signs), len(signs) - above)
+
+
+def made_quotient(top, under):
+    """A QUOTIENT of a TOP and an UNDER without a common divisor, divided by the first NUMBER of UNDER."""
+    first = pair(under[0])
+    return tuple((pair(each) / first).number() for each in top), tuple((pair(each) / first).number() for each in under)
+
+
+def quotient_at(quotient, at):
+    """The value of a QUOTIENT at a Pair, which is no root of UNDER."""
+    return value_of(quotient[0], at) / value_of(quotient[1], at)
 
 
 def given(error, values):

@@ -1,19 +1,25 @@
-"""The examples of the interface, with the answers that stand there."""
+"""The examples of the interface, with the answers that stand there, and those of README.md."""
 
+import pathlib
 import unittest
 
 from withinrim import errors
 
-STAGE_ONE = '''
+NUMBERS_TO_HELDS = '''
 >>> from withinrim.numbers import compared, fraction_of, lies, number_of, number_over, number_product, rim_fraction, rim_number, size
 >>> from withinrim.rows import row_at, row_back, row_common, row_divided, row_from, row_product, row_value
 >>> from withinrim.realrows import below_at, is_never_below, leaps, real_roots, real_roots_within
+>>> from withinrim.rootcounts import rim_rows, root_counts, times_root
+>>> from withinrim.quotients import coefficients, quotient_of, quotient_over, quotient_value
+>>> from withinrim.helds import above_at, is_up_to, rim_gap
 >>> [fraction_of(6, -4), compared((-3, 2), (-5, 3)), number_of(1, 2, 2), number_product(number_of(1, 2, 2), number_of(0, 2)), number_over(number_of(5), number_of(2, 1)) == number_of(2, -1)]
 [(-3, 2), 1, ((1, 2), (1, 1)), ((-2, 1), (1, 1)), True]
 >>> [size(number_of(3, 4)), lies(number_of(3, 4, 5)), rim_number((1, 2)), rim_fraction(((3, 5), (4, 5))), rim_fraction(number_of(-1))]
 [(25, 1), 'rim', ((3, 5), (4, 5)), (1, 2), None]
 >>> nought, one, half = number_of(0), number_of(1), number_of(1, 0, 2)
 >>> cubic = (one, number_of(-5, 0, 2), half, one)
+>>> [root_counts(cubic), times_root(cubic, half), root_counts(row_back(cubic, 5)), rim_rows((nought, one))]
+[(1, 1, 1), 1, (3, 1, 1), (((1, 1),), ((0, 1), (1, 1)))]
 >>> row_divided(cubic, (number_of(-1), nought, one)) == ((half, one), (number_of(3, 0, 2), number_of(-3, 0, 2)))
 True
 >>> [row_common(cubic, (number_of(-1), nought, one)) == (number_of(-1), one), row_at((nought, nought, one), one) == (one, number_of(2), one), row_from((one, nought)) == (one,)]
@@ -21,6 +27,36 @@ True
 >>> flat = ((1, 1), (-2, 1), (2, 1), (-2, 1), (1, 1))
 >>> [real_roots(flat), is_never_below(flat), real_roots(((0, 1), (-1, 1), (0, 1), (1, 1))), real_roots_within(((0, 1), (-1, 1), (0, 1), (1, 1)), (-1, 1), (1, 1)), leaps(((0, 1), (1, 1)), ((-1, 1),))]
 [(1, 1), True, (3,), 2, -1]
+>>> bent = quotient_of((nought, one), (one, number_of(-1, 0, 2)))
+>>> [rim_gap(bent, (4, 1)), is_up_to(bent), is_up_to(bent, bound=(4, 1)), quotient_value(bent, number_of(2)), above_at(quotient_of((one,), (one, number_of(-3))))]
+[((0, 1), (0, 1), (8, 1)), False, True, None, ('roots', 1)]
+>>> [coefficients(bent, nought, 3) == (nought, one, half), quotient_over(bent, bent) == ((one,), (one,)), compared(size(quotient_value(bent, above_at(bent)[1])), (1, 1))]
+[True, True, 1]
+'''
+
+TABLES_AND_SQUARES = '''
+>>> from withinrim.numbers import number_of
+>>> from withinrim.squares import counts_of, do_make, is_nonnegative, is_positive, mix_below, null_mixes, rank_of, signed_squares, squares_of
+>>> from withinrim.tables import cleared_table, come_out_together, comes_out, element_product, is_table, led_table, struck_table, table_multiple, table_sum, tables_beside
+>>> nought, one, turned, less = number_of(0), number_of(1), number_of(0, 1), number_of(-1)
+>>> firm = ((number_of(2), turned), (number_of(0, -1), one))
+>>> [comes_out(firm, (one, turned)), comes_out(firm, (one, number_of(0, -1))), come_out_together(firm, (one, nought), (nought, turned)), is_table(((turned,),))]
+[(5, 1), (1, 1), ((1, 1), (0, 1)), False]
+>>> [squares_of(firm) == (((2, 1), (one, number_of(0, -1, 2))), ((1, 2), (nought, one))), is_positive(firm), mix_below(firm), cleared_table(firm) == ((number_of(1, 0, 2),),)]
+[True, True, None, True]
+>>> even, cross = ((one, one), (one, one)), ((nought, one), (one, nought))
+>>> [squares_of(even) == (((1, 1), (one, one)),), null_mixes(even) == ((less, one),), rank_of(even), counts_of(cross), squares_of(cross), comes_out(cross, (one, less))]
+[True, True, 1, (1, 0, 1), None, (-2, 1)]
+>>> [led_table(firm, ((one, turned),)) == ((number_of(5),),), counts_of(tables_beside(even, cross)), struck_table(cross, 0) == ((nought,),), element_product(firm, even) == firm]
+[True, (2, 1, 1), True, True]
+>>> [table_sum(even, cross) == ((one, number_of(2)), (number_of(2), one)), table_multiple(even, (-3, 1)) == ((number_of(-3), number_of(-3)), (number_of(-3), number_of(-3)))]
+[True, True]
+>>> [do_make(cross, signed_squares(cross)), do_make(even, ((one, one),)), do_make((), ()), is_nonnegative(cross)]
+[True, False, True, False]
+>>> comes_out(((nought, one), (turned, nought)), (one, one))
+raises InvalidTable(index=1)
+>>> table_sum(even, ((one,),))
+raises InvalidTable(index=None)
 '''
 
 
@@ -51,8 +87,16 @@ class ExamplesTest(unittest.TestCase):
         self.assertIs(type(caught.exception), type(wanted), code)
         self.assertEqual(vars(caught.exception), vars(wanted), code)
 
-    def test_numbers_rows_real_rows(self):
-        self.run_all(STAGE_ONE)
+    def test_numbers_to_helds(self):
+        self.run_all(NUMBERS_TO_HELDS)
+
+    def test_tables_and_squares(self):
+        self.run_all(TABLES_AND_SQUARES)
+
+    def test_readme(self):
+        text = (pathlib.Path(__file__).resolve().parent.parent / "README.md").read_text(encoding="ascii")
+        self.assertGreater(len(list(examples(text))), 5)
+        self.run_all(text)
 
 
 if __name__ == "__main__":

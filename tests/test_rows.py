@@ -124,6 +124,23 @@ class DividingTest(unittest.TestCase):
         near = from_roots((1, Fraction(GREAT, GREAT + 1)))
         self.assertEqual(row_common(near, from_roots((1, 1))), row(-1, 1))
 
+    def test_common_whatever_a_prime_tells(self):
+        # Numbers that are nought by the prime by which rows are first compared, or one of whose factors is.
+        prime, factor = 2305843009213693921, Pair(1458625360, 422202639)
+        self.assertEqual(factor.size(), prime)
+        for last in (Pair(prime), factor, factor.mirrored(), factor * factor, factor * Pair(2, 5)):
+            shared = row(3, 1, last)
+            one, other = times_rows(shared, row(2, 1)), times_rows(shared, row(3, 1))
+            self.assertEqual(row_common(one, other), row_divided(shared, shared[-1:])[0])
+            for hidden in (row(1, last), row(1, 0, last)):
+                one, other = times_rows(hidden, row(2, 1)), times_rows(hidden, from_roots((-3, -5)))
+                for pair_of_rows in ((one, other), (other, one), (one, hidden), (hidden, one), (other, hidden)):
+                    self.assertEqual(row_common(*pair_of_rows), row_divided(hidden, hidden[-1:])[0])
+            self.assertEqual(row_common(row(2, last), row(3, last)), row(1))
+            self.assertEqual(row_common(row(2, 1), row(Pair(2) + last, 1)), row(1))
+            self.assertEqual(row_common(row(2, 1), times_rows(row(2, 1), row(last, 1))), row(2, 1))
+            self.assertEqual(row_common(row(last, 0, 1), row(0, 1)), row(1))
+
     def test_common_of_great_degrees(self):
         source = random.Random(16)
         shared = from_roots([some_pair(source, 3, 3) for _ in range(4)])

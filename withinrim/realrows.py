@@ -103,10 +103,13 @@ def changes_at(chain, fraction):
     return changes([times_bottoms(p, fraction) for p in chain])
 
 
-def single(p):
-    """A whole row with the roots of another one, not nought, each once."""
-    shared = chain_of(p, slope_of(p))[-1]
-    return parted(p, shared)[0]
+def single_chain(p):
+    """The chain of a whole row, not nought, with its slope; if it has multiple roots, of the row that has each once."""
+    chain = chain_of(p, slope_of(p))
+    if len(chain[-1]) > 1:
+        once = parted(p, chain[-1])[0]
+        chain = chain_of(once, slope_of(once))
+    return chain
 
 
 def root_counts_of(p):
@@ -151,7 +154,7 @@ def between(p, low, high):
 def place_below(p):
     """A fraction at which a whole row that is below 0 somewhere is so."""
     edge = beyond_roots(p)
-    chain = chain_of(single(p), slope_of(single(p)))
+    chain = single_chain(p)
     spans = [((-edge, 1), (edge, 1))]
     while spans:
         low, high = spans.pop()
@@ -202,8 +205,7 @@ def real_roots_within(real, low, high):
         raise NotNow()
     if order(low, high) >= 0:
         return 0
-    p = single(whole_real(real)[0])
-    chain = chain_of(p, slope_of(p))
+    chain = single_chain(whole_real(real)[0])
     return changes_at(chain, low) - changes_at(chain, high)
 
 

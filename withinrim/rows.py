@@ -9,6 +9,9 @@ from withinrim.plain import (
 )
 
 MOST_BACK = 100
+# A prime, and a whole number whose square is - 1 but for multiples of it: so it can stand for i.
+PRIME = 2305843009213693921
+TURN = 583529827753931384
 
 
 def is_row(value):
@@ -108,6 +111,36 @@ def normed_rest(first, second):
     return normed(real, turned)
 
 
+def by_prime(normed_row):
+    """A normed row by the prime, i told by a whole number; as many numbers, also if the last one is 0."""
+    return [(x + y * TURN) % PRIME for x, y in zip(normed_row[0], normed_row[1])]
+
+
+def prime_rest(p, q):
+    """A multiple of the rest of one row of whole numbers over another one, by the prime, q's last one not 0."""
+    rest = list(p)
+    while len(rest) >= len(q):
+        top = rest.pop()
+        ahead = len(rest) + 1 - len(q)
+        rest = [each * q[-1] % PRIME for each in rest]
+        for k, each in enumerate(q[:-1]):
+            rest[ahead + k] = (rest[ahead + k] - top * each) % PRIME
+    while rest and rest[-1] == 0:
+        rest.pop()
+    return rest
+
+
+def surely_apart(first, second):
+    """Whether two normed rows, not (), are seen by the prime to have no root in common; False tells nothing."""
+    p, q = by_prime(first), by_prime(second)
+    # Only if the prime keeps the degree of a row it keeps that of the row's divisors.
+    if p[-1] == 0 or q[-1] == 0:
+        return False
+    while len(q) > 1:
+        p, q = q, prime_rest(p, q)
+    return len(q) == 1
+
+
 def common(row, other):
     """The common divisor of two ROWs, not checked."""
     # Whole numbers without a common divisor keep the rests short, where fractions grow from rest to rest.
@@ -115,6 +148,9 @@ def common(row, other):
     first = normed(real, turned)
     real, turned, _ = whole_parts(other)
     second = normed(real, turned)
+    # Most rows that are met have none, which numbers of one size show far sooner.
+    if first[0] and second[0] and surely_apart(first, second):
+        return (UNIT,)
     while second[0]:
         first, second = second, normed_rest(first, second)
     real, turned = first
@@ -132,8 +168,9 @@ def value_at(row, number):
 def moved_to(row, number):
     """The numbers of a ROW in powers of h at the number + h, not checked."""
     numbers = list(row)
-    for done in range(len(numbers)):
-        for at in reversed(range(done, len(numbers) - 1)):
+    last = len(row) - 1
+    for done in range(last):
+        for at in reversed(range(done, last)):
             numbers[at] = plus(numbers[at], times(number, numbers[at + 1]))
     return tuple(numbers)
 
