@@ -2,7 +2,7 @@
 
 import copy
 from fractions import Fraction
-from math import gcd
+from math import comb, gcd
 
 
 class Pair:
@@ -195,6 +195,7 @@ WRONG_NUMBERS = STRANGE + BOOLS + (
     ((1, 1), (1, -1)), (((1, 1), (0, 1)),), ((1, 1), (0, 1, 1)),
 )
 ONE = ((1, 1), (0, 1))
+WRONG_FACTORS = WRONG_NUMBERS + (num(0),)
 WRONG_ROWS = STRANGE + BOOLS + (
     0, 1, (1, 1), ONE, [ONE], (ONE, [ONE]), (ONE, num(0)), (num(0),), (num(0), num(0)), (ONE, (1, 1)), (1, ONE),
     (ONE, ((2, 2), (0, 1))), (ONE, None), (ONE, True), ((ONE, ONE),), (((1, 1), (0, 1), (0, 1)),), (((True, 1), (0, 1)),),
@@ -214,6 +215,24 @@ WRONG_QUOTIENTS = STRANGE + BOOLS + (
     ((num(0),), (ONE,)), ((ONE,), (ONE, num(0))), ((ONE, ONE), (ONE, ONE)), ((num(2), num(2)), (ONE, ONE)),
     (row(-1, 0, 1), row(1, 1)), (row(0, 1, 1), row(1, 0, -1)), ((ONE,), (num(0, 1),)), ((ONE,), ONE), (None, (ONE,)),
     ((ONE,), (True,)), (((True, 1), (0, 1)), (ONE,)), (((ONE,), (ONE,)), (ONE,)),
+)
+WRONG_PLACES = WRONG_NUMBERS + (
+    ONE, num(-1), num(0, 1), num(Fraction(3, 5), Fraction(4, 5)), num(2), num(0, -3), num(1, 1),
+    num(Fraction(10 ** 30 + 1, 10 ** 30)), num(Fraction(4, 5), Fraction(61, 100)),
+)
+WRONG_DATA = tuple((each, None) for each in STRANGE if type(each) is not tuple) + (
+    (True, None), (0, None), ([(num(0), (ONE,))], None), (((num(0), (ONE,)),) * 7, None), ((None,) * 7, None),
+    (nested(20), 0), ((None,), 0), (ONE, 0), ((num(0), (ONE,)), 0), ((((1, 2), (0, 1)),), 0), (((num(0),),), 0),
+    (((num(0), (ONE,), ()),), 0), (([num(0), (ONE,)],), 0), (((num(0), ()),), 0), (((num(0), [ONE]),), 0),
+    (((num(0), ONE),), 0), (((num(0), (ONE,) * 4),), 0), (((ONE, (ONE,)),), 0), (((num(2), (ONE,)),), 0),
+    (((num(0), (None,)),), 0), (((num(0), (ONE, True)),), 0), (((num(0), (ONE, ((2, 2), (0, 1)))),), 0),
+    (((0, (ONE,)),), 0), (((num(0), (ONE,)), None), 1), (((num(0), (ONE,)), (num(0), (ONE,))), 1),
+    (((num(0), (ONE,)), (HALF, (ONE,)), (num(0), (num(2),))), 2), (((num(0), (ONE,)), (num(0, 1), (ONE,))), 1),
+    (((num(0), (ONE,) * 3), (HALF, (ONE,) * 3), (num(Fraction(1, 3)), (ONE,))), 2),
+    (((num(0), (ONE,) * 3), (HALF, (ONE,) * 3), (num(0, Fraction(1, 2)), (ONE,))), 2),
+    (((num(0), (ONE,) * 3), (HALF, (ONE,) * 2), (num(0, Fraction(1, 2)), (ONE,) * 2)), 2),
+    (tuple((num(Fraction(k, 9)), (ONE,)) for k in range(5)) + ((HALF, (ONE, ONE)),), 5),
+    (((num(0), (ONE,)), (HALF, (ONE, (1, 1)))), 1), (((num(0), (ONE,)), ()), 1), (((num(0), (1,)),), 0),
 )
 WRONG_TABLES = tuple((each, None) for each in STRANGE if type(each) is not tuple) + (
     (True, None), (0, None), ((1, 2), 0), ([(ONE,)], None), ((row(1, 0, 0, 0, 0, 0, 0),) * 7, None), ((None,) * 7, None),
@@ -311,6 +330,125 @@ def quotient_at(quotient, at):
     return value_of(quotient[0], at) / value_of(quotient[1], at)
 
 
+def rim_one(factor, roots):
+    """The factor times the product of (z - a) / (1 - a' z) over the roots, Pairs; all in the tests' own arithmetic."""
+    top, under = row(factor), row(1)
+    for root in roots:
+        top = times_rows(top, row(Pair(0) - root, 1))
+        under = times_rows(under, row(1, Pair(0) - root.mirrored()))
+    return top, under
+
+
+def powers_at(some, at, many):
+    """So many coefficients of a ROW in powers of h at the Pair + h, as Pairs."""
+    found = []
+    for low in range(many):
+        total, power = Pair(0), Pair(1)
+        for k in range(low, len(some)):
+            total = total + pair(some[k]) * power * Pair(comb(k, low))
+            power = power * at
+        found.append(total)
+    return found
+
+
+def series_at(quotient, at, many):
+    """So many coefficients of a QUOTIENT at a Pair, which is no root of UNDER, as NUMBERs."""
+    above, below = powers_at(quotient[0], at, many), powers_at(quotient[1], at, many)
+    found = []
+    for k in range(many):
+        rest = above[k]
+        for j in range(k):
+            rest = rest - found[j] * below[k - j]
+        found.append(rest / below[0])
+    return tuple(each.number() for each in found)
+
+
+def data_from(quotient, shape):
+    """The DATA that a QUOTIENT has at the places of a list of pairs (Pair, how many)."""
+    return tuple((place.number(), series_at(quotient, place, many)) for place, many in shape)
+
+
+def some_places(source, many, bottoms=(2, 3, 4, 5), inside=1):
+    """So many unlike Pairs in the disc."""
+    found = []
+    while len(found) < many:
+        bottom = source.choice(bottoms)
+        made = Pair(Fraction(source.randint(-bottom, bottom), bottom), Fraction(source.randint(-bottom, bottom), bottom))
+        if made.size() < inside and not any(made == each for each in found):
+            found.append(made)
+    return found
+
+
+SHAPES = ((1,), (2,), (3,), (1, 1), (2, 1), (1, 2), (1, 1, 1), (3, 1), (2, 2), (1, 3, 1), (1, 1, 1, 1), (2, 1, 2),
+          (1, 1, 1, 1, 1), (3, 3), (2, 2, 2), (1, 2, 3), (1, 1, 1, 1, 1, 1), (1, 1, 1, 1, 2))
+
+
+def shape_at(source, counts):
+    """Unlike places with so many VALUES each."""
+    return list(zip(some_places(source, len(counts)), counts))
+
+
+def plain_product(one, other):
+    """The product of two tables of Pairs, as lists of rows."""
+    return [[sum_pairs(x * row_of[k] for x, row_of in zip(line, other)) for k in range(len(other[0]))] for line in one]
+
+
+def sum_pairs(pairs):
+    total = Pair(0)
+    for each in pairs:
+        total = total + each
+    return total
+
+
+def indexes_of(data):
+    return [(pair(place), a, values) for place, values in data for a in range(len(values))]
+
+
+def kernel_by_h(z, y, a, b):
+    """The coefficient of h^a times the mirrored k to b in 1 / (1 - (z + h)(y + k)'), by clearing the lower part."""
+    if a < 0 or b < 0:
+        return Pair(0)
+    total = Pair(1 if a == b == 0 else 0)
+    total = total + y.mirrored() * kernel_by_h(z, y, a - 1, b) + z * kernel_by_h(z, y, a, b - 1)
+    return (total + kernel_by_h(z, y, a - 1, b - 1)) / (Pair(1) - z * y.mirrored())
+
+
+def own_tables(data):
+    """(S, V) of DATA as lists of rows of Pairs, by the tests' own arithmetic."""
+    told_at = indexes_of(data)
+    s = [[kernel_by_h(z, y, a, b) for y, b, _ in told_at] for z, a, _ in told_at]
+    v = [[pair(values[a - b]) if z == y and b <= a else Pair(0) for y, b, _ in told_at] for z, a, values in told_at]
+    return s, v
+
+
+def turned_over(rows):
+    return [[each.mirrored() for each in column] for column in zip(*rows)]
+
+
+def own_value_table(data):
+    """(S, V S V') of DATA as TABLEs, by the tests' own arithmetic."""
+    if not data:
+        return (), ()
+    s, v = own_tables(data)
+    return plain_table(s), plain_table(plain_product(plain_product(v, s), turned_over(v)))
+
+
+def own_table(data, bound):
+    """t S - V S V' as a TABLE, by the tests' own arithmetic; bound is a Fraction."""
+    s, r = own_value_table(data)
+    return plain_table([[Pair(bound) * pair(x) - pair(y) for x, y in zip(one, two)] for one, two in zip(s, r)])
+
+
+def mirrored_data(data):
+    """DATA with all NUMBERs mirrored."""
+    return tuple((pair(place).mirrored().number(), tuple(pair(each).mirrored().number() for each in values))
+                 for place, values in data)
+
+
+def mirrored_row_of(some):
+    return tuple(pair(each).mirrored().number() for each in some)
+
+
 def given(error, values):
     """What a parameter refuses: the error, its attribute, and pairs of a wrong value and what the attribute is."""
     return (error, "given", tuple((value, value) for value in values))
@@ -342,16 +480,20 @@ def refused(case, error, attribute, expected, call, *args, **named):
         case.assertEqual(one, other)
 
 
-def check_refusals(case, call, parameters):
+def check_refusals(case, call, parameters, order=None):
     """Try each wrong value at each place, alone and ahead of wrong ones behind it, by position and by name.
 
-    parameters: tuples of a name, what it refuses (given, indexed), and a right value.
+    parameters: tuples of a name, what it refuses (given, indexed), and a right value; order: the indexes of the
+    parameters as they are checked, where that is not the order in which they stand.
     """
-    rights = [right for _, _, right in parameters]
-    for at, (_, (error, attribute, pairs), _) in enumerate(parameters):
+    order = list(range(len(parameters))) if order is None else order
+    for rank, at in enumerate(order):
+        error, attribute, pairs = parameters[at][1]
         for value, expected in pairs:
-            args = rights[:at] + [value] + rights[at + 1:]
+            args = [right for _, _, right in parameters]
+            args[at] = value
             refused(case, error, attribute, expected, call, *args)
             refused(case, error, attribute, expected, call, **dict(zip([each[0] for each in parameters], args)))
-            behind = [wrong[2][0][0] for _, wrong, _ in parameters[at + 1:]]
-            refused(case, error, attribute, expected, call, *(rights[:at] + [value] + behind))
+            for later in order[rank + 1:]:
+                args[later] = parameters[later][1][2][0][0]
+            refused(case, error, attribute, expected, call, *args)

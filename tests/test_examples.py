@@ -34,8 +34,9 @@ True
 [True, True, 1]
 '''
 
-TABLES_AND_SQUARES = '''
+TABLES_TO_PENCILS = '''
 >>> from withinrim.numbers import number_of
+>>> from withinrim.pencils import compare_leasts, is_pencil, least_floor, least_fraction, roots_about, row_of, side_of_least
 >>> from withinrim.squares import counts_of, do_make, is_nonnegative, is_positive, mix_below, null_mixes, rank_of, signed_squares, squares_of
 >>> from withinrim.tables import cleared_table, come_out_together, comes_out, element_product, is_table, led_table, struck_table, table_multiple, table_sum, tables_beside
 >>> nought, one, turned, less = number_of(0), number_of(1), number_of(0, 1), number_of(-1)
@@ -53,10 +54,44 @@ TABLES_AND_SQUARES = '''
 [True, True]
 >>> [do_make(cross, signed_squares(cross)), do_make(even, ((one, one),)), do_make((), ()), is_nonnegative(cross)]
 [True, False, True, False]
+>>> plain = ((one, nought), (nought, one))
+>>> crossed, longer = (plain, cross), (plain, ((one, one), (one, nought)))
+>>> [row_of(crossed), least_fraction(crossed), roots_about(crossed, (0, 1)), side_of_least(crossed, (1, 1)), row_of(longer), least_fraction(longer), least_floor(longer, 10), compare_leasts(longer, crossed)]
+[((-1, 1), (0, 1), (1, 1)), (1, 1), (1, 0, 1), 0, ((-1, 1), (-1, 1), (1, 1)), None, 16, 1]
+>>> [is_pencil((even, cross)), is_pencil(((), ())), side_of_least(longer, (-5, 1))]
+[False, False, -1]
 >>> comes_out(((nought, one), (turned, nought)), (one, one))
 raises InvalidTable(index=1)
 >>> table_sum(even, ((one,),))
 raises InvalidTable(index=None)
+'''
+
+DATA_TO_TURNS = '''
+>>> from withinrim.answers import answer, goes_along, some_answer, the_one, told_back, values_at
+>>> from withinrim.data import does_have, is_data, joined, many_values, table_of
+>>> from withinrim.steps import four_rows, knots, standing, step, step_table
+>>> zero, unit, half, quarter = ((0, 1), (0, 1)), ((1, 1), (0, 1)), ((1, 2), (0, 1)), ((1, 4), (0, 1))
+>>> two, edge, far = ((zero, (zero,)), (half, (quarter,))), ((zero, (zero,)), (half, (half,))), ((zero, (zero,)), (half, (unit,)))
+>>> [standing(two), standing(edge), standing(far), standing(far, (4, 1)), many_values(two), is_data(two + two[:1])]
+['many', 'one', 'none', 'one', 2, False]
+>>> [table_of(two) == ((unit, unit), (unit, ((5, 4), (0, 1)))), table_of(edge) == ((unit, unit), (unit, unit)), step(two) == ((half, (half,)),), knots(two) == ((zero, zero), (half, half))]
+[True, True, True, True]
+>>> line = ((zero, unit), (unit,))
+>>> [the_one(edge) == line, does_have(edge, line), the_one(two), goes_along(two, ((-1, 2), (0, 1)), quarter), goes_along(edge, quarter, half)]
+[True, True, None, True, False]
+>>> values_at(two, ((-1, 2), (0, 1)))
+(((-3, 28), (0, 1)), (25, 196))
+>>> [answer(two, ((), (unit,))) == ((zero, half), (unit,)), told_back(two, ((zero, half), (unit,))), four_rows(two)[0] == (zero, ((-1, 2), (0, 1)), unit), told_back(two, line)]
+[True, ((), (((1, 1), (0, 1)),)), True, None]
+>>> from withinrim.turns import apartness, back, behind, is_turn, led, turn_between, turn_quotient
+>>> i, less, double = ((0, 1), (1, 1)), ((-1, 2), (0, 1)), ((2, 1), (0, 1))
+>>> shift = (unit, half)
+>>> [is_turn(shift), is_turn((half, zero)), is_turn((unit, unit)), is_turn((unit, unit), (4, 1)), led(shift, zero) == less, led(shift, unit) == unit, led(shift, double), back(shift) == (unit, less)]
+[True, False, False, True, True, True, None, True]
+>>> [behind(shift, shift), apartness(half, less), apartness(unit, ((-1, 1), (0, 1)), (4, 1)), led((unit, unit), double, (4, 1)) == double]
+[(((1, 1), (0, 1)), ((4, 5), (0, 1))), (16, 25), (16, 25), True]
+>>> [turn_between(zero, half, half, zero) == (((-1, 1), (0, 1)), half), turn_between(zero, half, half, half), turn_quotient(shift) == ((less, unit), (unit, less))]
+[True, None, True]
 '''
 
 
@@ -90,8 +125,11 @@ class ExamplesTest(unittest.TestCase):
     def test_numbers_to_helds(self):
         self.run_all(NUMBERS_TO_HELDS)
 
-    def test_tables_and_squares(self):
-        self.run_all(TABLES_AND_SQUARES)
+    def test_tables_to_pencils(self):
+        self.run_all(TABLES_TO_PENCILS)
+
+    def test_data_to_turns(self):
+        self.run_all(DATA_TO_TURNS)
 
     def test_readme(self):
         text = (pathlib.Path(__file__).resolve().parent.parent / "README.md").read_text(encoding="ascii")

@@ -16,6 +16,7 @@ METHODS = set("""append clear copy count endswith extend find get index insert i
     isupper items join keys ljust lower lstrip partition pop remove replace reverse rfind rjust rpartition rsplit
     rstrip setdefault split splitlines startswith strip update upper values zfill bit_length add discard""".split())
 ATONCE = {"zip", "enumerate", "reversed", "range"}
+PRODUCTS = {"product", "combinations", "permutations"}
 TAKERS = {"list", "tuple", "dict", "sorted", "sum", "min", "max", "any", "all", "enumerate", "zip", "reversed", "len"}
 BARRED = set("""register mro elements open input law version_info with_traceback add_note attrgetter breakpoint builtins
     compile copyright credits delattr dir eval exec exit gc getattr globals hasattr help id importlib license locals
@@ -193,12 +194,15 @@ class LanguageTest(unittest.TestCase):
             self.assertIn(call.func.id, TAKERS - {"enumerate", "zip", "reversed", "len"}, where)
             self.assertEqual(len(call.args), 1, where)
         for where, node in self.each_node(ast.Call):
+            if isinstance(node.func, ast.Name) and node.func.id in PRODUCTS:
+                self.assertTrue(isinstance(node.above, ast.For) and node.above.iter is node, where)
             if not (isinstance(node.func, ast.Name) and node.func.id in ATONCE):
                 continue
             above = node.above
             fine = (isinstance(above, (ast.For, ast.comprehension)) and above.iter is node) or (
                 isinstance(above, ast.Call) and isinstance(above.func, ast.Name) and above.func.id in TAKERS) or (
-                isinstance(above, ast.Compare) and node.func.id == "range")
+                isinstance(above, ast.Compare) and node.func.id == "range") or (
+                isinstance(above, ast.Call) and node.func.id == "range" and above.func.id in PRODUCTS)
             self.assertTrue(fine, where)
 
     def test_calls(self):

@@ -62,6 +62,11 @@ def place_above(quotient, bound, fraction):
     return scaled(number, fraction_less(ONE, (1, part)))
 
 
+def keeps_to(quotient, bound):
+    """Whether a QUOTIENT is up to a bound, not checked."""
+    return closed_count(quotient[1]) == 0 and never_below(shortened(gap_of(quotient, bound)[0]))
+
+
 def rim_gap(quotient, bound=(1, 1)):
     """The gap: the bound times UNDER's size squared less TOP's, round the rim."""
     need_quotient(quotient)
@@ -74,7 +79,7 @@ def is_up_to(quotient, bound=(1, 1)):
     """Whether UNDER has no root in the closed disc and the size squared is nowhere there above the bound."""
     need_quotient(quotient)
     need_bound(bound)
-    return closed_count(quotient[1]) == 0 and never_below(shortened(gap_of(quotient, bound)[0]))
+    return keeps_to(quotient, bound)
 
 
 def above_at(quotient, bound=(1, 1)):

@@ -86,6 +86,11 @@ def scaled(x, fraction):
     return (fraction_times(x[0], fraction), fraction_times(x[1], fraction))
 
 
+def part_of(x, fraction):
+    """A NUMBER over a fraction above 0."""
+    return scaled(x, (fraction[1], fraction[0]))
+
+
 def over(x, y):
     """x over y, both NUMBERs, y not nought."""
     n, m = size_of(y)
@@ -120,3 +125,35 @@ def whole_product(p, q):
             for j, y in enumerate(q):
                 total[i + j] += x * y
     return total
+
+
+def series_product(p, q):
+    """The first coefficients of a product of series, as many as P tells; what Q does not tell counts as nought."""
+    found = []
+    for at in range(len(p)):
+        total = NOUGHT
+        for k in range(min(at + 1, len(q))):
+            total = plus(total, times(p[at - k], q[k]))
+        found.append(total)
+    return tuple(found)
+
+
+def series_over(p, q):
+    """Those of one series over another one, likewise, the first NUMBER of Q not nought."""
+    found = []
+    for at in range(len(p)):
+        total = p[at]
+        for k in range(1, min(at + 1, len(q))):
+            total = less(total, times(q[k], found[at - k]))
+        found.append(over(total, q[0]))
+    return tuple(found)
+
+
+def series_led(series, turn, bound):
+    """Those of a series, not (), led by a turn for the bound; None if its first one is led nowhere."""
+    unit, centre = turn
+    drawn = part_of(mirror(centre), bound)
+    above = [times(unit, each) for each in (less(series[0], centre),) + series[1:]]
+    below = [times(less(NOUGHT, drawn), each) for each in series]
+    below[0] = plus(UNIT, below[0])
+    return None if below[0] == NOUGHT else series_over(above, below)

@@ -2,7 +2,7 @@
 
 from withinrim.errors import InvalidCount, InvalidQuotient, NoSeries, NotNow
 from withinrim.numbers import is_whole, need_number
-from withinrim.plain import NOUGHT, UNIT, less, over, times
+from withinrim.plain import NOUGHT, UNIT, over, series_over
 from withinrim.rows import (
     common, difference, divided, is_row, mirror_row, moved_to, multiple, need_row, product_of, sum_of, value_at,
 )
@@ -44,19 +44,21 @@ def degree_of(quotient):
     return max(len(top), len(under)) - 1
 
 
+def quotient_at(quotient, number):
+    """The value of a QUOTIENT at a NUMBER, not checked; None at a root of UNDER."""
+    under = value_at(quotient[1], number)
+    if under == NOUGHT:
+        return None
+    return over(value_at(quotient[0], number), under)
+
+
 def coefficients_at(quotient, number, many):
     """So many coefficients at a NUMBER, not checked; None at a root of UNDER."""
     top, under = quotient
     above, below = moved_to(top, number), moved_to(under, number)
     if below[0] == NOUGHT:
         return None
-    found = []
-    for at in range(many):
-        rest = above[at] if at < len(above) else NOUGHT
-        for back in range(1, min(at, len(below) - 1) + 1):
-            rest = less(rest, times(below[back], found[at - back]))
-        found.append(over(rest, below[0]))
-    return tuple(found)
+    return series_over(above[:many] + (NOUGHT,) * (many - len(above)), below)
 
 
 def quotient_of(top, under):
@@ -116,10 +118,7 @@ def quotient_value(quotient, number):
     """The value at the NUMBER; None at a root of UNDER."""
     need_quotient(quotient)
     need_number(number)
-    under = value_at(quotient[1], number)
-    if under == NOUGHT:
-        return None
-    return over(value_at(quotient[0], number), under)
+    return quotient_at(quotient, number)
 
 
 def coefficients(quotient, number, many):
