@@ -234,6 +234,13 @@ WRONG_DATA = tuple((each, None) for each in STRANGE if type(each) is not tuple) 
     (tuple((num(Fraction(k, 9)), (ONE,)) for k in range(5)) + ((HALF, (ONE, ONE)),), 5),
     (((num(0), (ONE,)), (HALF, (ONE, (1, 1)))), 1), (((num(0), (ONE,)), ()), 1), (((num(0), (1,)),), 0),
 )
+NOUGHT = num(0)
+WRONG_TURNS = STRANGE + BOOLS + (
+    0, (), (1, 1), ONE, (ONE,), (ONE, NOUGHT, NOUGHT), [ONE, NOUGHT], (HALF, NOUGHT), (NOUGHT, NOUGHT), (num(2), NOUGHT), (num(1, 1), NOUGHT),
+    (ONE, None), (None, NOUGHT), (ONE, 0), (1, NOUGHT), ([ONE[0], ONE[1]], NOUGHT), (ONE, list(NOUGHT)), (ONE, ((2, 2), (0, 1))),
+    (((True, 1), (0, 1)), NOUGHT), (num(Fraction(10 ** 30, 10 ** 30 + 1)), NOUGHT), (ONE, True), (ONE, (0, 1)),
+)
+TOO_FAR = ((ONE, ONE), (ONE, num(0, 1)), (ONE, num(2)), (num(0, 1), num(Fraction(3, 5), Fraction(-4, 5))), (ONE, num(0, Fraction(10 ** 20 + 1, 10 ** 20))))
 WRONG_TABLES = tuple((each, None) for each in STRANGE if type(each) is not tuple) + (
     (True, None), (0, None), ((1, 2), 0), ([(ONE,)], None), ((row(1, 0, 0, 0, 0, 0, 0),) * 7, None), ((None,) * 7, None),
     (nested(20), 0), ((None,), 0), (([ONE],), 0), ((ONE,), 0), (((),), 0), ((row(1, 1),), 0), ((row(Pair(0, 1)),), 0),
@@ -377,6 +384,28 @@ def some_places(source, many, bottoms=(2, 3, 4, 5), inside=1):
         if made.size() < inside and not any(made == each for each in found):
             found.append(made)
     return found
+
+
+def some_number(source, bound):
+    """Any Pair whose size squared is below the bound."""
+    while True:
+        made = some_pair(source, 9, 7)
+        if made.size() < bound:
+            return made
+        made = made * Pair(Fraction(1, source.randint(2, 30)))
+        if made.size() < bound:
+            return made
+
+
+def some_turn(source, bound):
+    return (rim(Fraction(source.randint(-9, 9), source.randint(1, 5))).number(), some_number(source, bound).number())
+
+
+def own_led(turn, z, bound):
+    """Where a turn leads a Pair, as a Pair; None for nowhere."""
+    unit, centre = pair(turn[0]), pair(turn[1])
+    under = Pair(1) - centre.mirrored() * z / Pair(bound)
+    return None if under == Pair(0) else unit * (z - centre) / under
 
 
 SHAPES = ((1,), (2,), (3,), (1, 1), (2, 1), (1, 2), (1, 1, 1), (3, 1), (2, 2), (1, 3, 1), (1, 1, 1, 1), (2, 1, 2),

@@ -66,7 +66,7 @@ raises InvalidTable(index=1)
 raises InvalidTable(index=None)
 '''
 
-DATA_TO_TURNS = '''
+DATA_TO_MOVES = '''
 >>> from withinrim.answers import answer, goes_along, some_answer, the_one, told_back, values_at
 >>> from withinrim.data import does_have, is_data, joined, many_values, table_of
 >>> from withinrim.steps import four_rows, knots, standing, step, step_table
@@ -92,6 +92,37 @@ DATA_TO_TURNS = '''
 [(((1, 1), (0, 1)), ((4, 5), (0, 1))), (16, 25), (16, 25), True]
 >>> [turn_between(zero, half, half, zero) == (((-1, 1), (0, 1)), half), turn_between(zero, half, half, half), turn_quotient(shift) == ((less, unit), (unit, less))]
 [True, None, True]
+>>> from withinrim.rims import bound_of, is_rim_one, rim_of, rim_of_places, rounds, taken, taken_at
+>>> square, slow = ((zero, zero, unit), (unit,)), ((zero, half), (unit,))
+>>> [is_rim_one(turn_quotient(shift)), is_rim_one(slow), is_rim_one(slow, (1, 4)), bound_of(slow), rim_of(double, (zero, less, unit)) == ((zero, ((-1, 1), (0, 1)), double), (unit, less))]
+[True, False, True, (1, 4), True]
+>>> [rim_of_places(i, (zero, half)) == rim_of(i, (zero, less, unit)), taken(square, half), taken(square, unit), taken(square, double), rounds(slow), rounds(((half,), (unit,))), taken_at(square, square) == ((zero, zero, zero, zero, unit), (unit,))]
+[True, (2, 0, 0), (0, 2, 0), (0, 0, 2), 1, 0, True]
+>>> from withinrim.tames import held_data, held_of, is_tame, tame_of, tame_standing, tame_table
+>>> [tame_of(line) == ((unit, unit), (unit, ((-1, 1), (0, 1)))), is_tame(tame_of(line)), is_tame(line), held_of(tame_of(line)) == line]
+[True, True, False, True]
+>>> [tame_table(((zero, (unit, unit)),)) == ((double, unit), (unit, double)), tame_standing(((zero, (unit, unit)),)), tame_standing(((zero, (unit, double)),)), tame_standing(((zero, (unit, ((3, 1), (0, 1)))),)), held_data(((zero, (unit, unit)),)) == ((zero, (zero, half)),)]
+[True, 'many', 'one', 'none', True]
+>>> from withinrim.moves import bound_pencil, moved_places, moved_values, to_noughts
+>>> mate = ((half, (half,)), (zero, (zero,)))
+>>> [moved_places(mate, shift) == ((zero, (half,)), (less, (zero,))), moved_values(mate, shift) == ((half, (zero,)), (zero, (less,))), to_noughts(mate)[2] == ((zero, (zero,)), (less, (less,)))]
+[True, True, True]
+>>> bound_pencil(far) == (((unit, unit), (unit, ((4, 3), (0, 1)))), ((zero, zero), (zero, ((4, 3), (0, 1)))))
+True
+>>> moved_places(((zero, (zero, unit)),), shift)
+((((-1, 2), (0, 1)), (((0, 1), (0, 1)), ((4, 3), (0, 1)))),)
+'''
+
+PLANTS = '''
+>>> from withinrim.numbers import number_of
+>>> from withinrim.plants import is_plant, is_real_plant, mirrored_plant, quotient_of_plant
+>>> nought, one, half, corner = number_of(0), number_of(1), number_of(1, 0, 2), number_of(1, 1, 2)
+>>> sure, later = (((nought, 1),), ((half, 1),), ((one,), (one,))), (((nought, 1),), ((corner, 1),), ((one,), (one,)))
+>>> p = quotient_of_plant(sure)
+>>> [is_plant(sure), p == ((nought, number_of(-2)), (one, number_of(-2))), is_real_plant(sure), is_real_plant(later), mirrored_plant(later)[1] == ((number_of(1, -1, 2), 1),)]
+[True, True, True, False, True]
+>>> quotient_of_plant((((half, 1),), (), ((one,), (one,))))
+raises InvalidPlant(index=0)
 '''
 
 
@@ -128,8 +159,11 @@ class ExamplesTest(unittest.TestCase):
     def test_tables_to_pencils(self):
         self.run_all(TABLES_TO_PENCILS)
 
-    def test_data_to_turns(self):
-        self.run_all(DATA_TO_TURNS)
+    def test_data_to_moves(self):
+        self.run_all(DATA_TO_MOVES)
+
+    def test_plants(self):
+        self.run_all(PLANTS)
 
     def test_readme(self):
         text = (pathlib.Path(__file__).resolve().parent.parent / "README.md").read_text(encoding="ascii")

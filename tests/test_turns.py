@@ -5,8 +5,9 @@ import unittest
 from fractions import Fraction
 
 from tests.support import (
-    BOOLS, HALF, ONE, STRANGE, WRONG_BOUNDS, WRONG_NUMBERS, Pair, check_refusals, frac, given, num, pair, quotient_at,
-    reduced_fraction, reduced_number, refused, rim, rim_one, row, some_pair, some_places, told,
+    HALF, ONE, TOO_FAR, WRONG_BOUNDS, WRONG_NUMBERS, WRONG_TURNS, Pair, check_refusals, frac, given, num, own_led, pair,
+    quotient_at, reduced_fraction, reduced_number, refused, rim, rim_one, row, some_number, some_pair, some_places,
+    some_turn, told,
 )
 from withinrim.answers import answer
 from withinrim.errors import InvalidFraction, InvalidNumber, InvalidTurn
@@ -20,38 +21,8 @@ SHIFT = (ONE, HALF)
 BOUNDS = (Fraction(1), Fraction(4), Fraction(2), Fraction(1, 9), Fraction(7, 5))
 
 
-def some_number(source, bound):
-    """Any Pair whose size squared is below the bound."""
-    while True:
-        made = some_pair(source, 9, 7)
-        if made.size() < bound:
-            return made
-        made = made * Pair(Fraction(1, source.randint(2, 30)))
-        if made.size() < bound:
-            return made
-
-
-def some_turn(source, bound):
-    return (rim(Fraction(source.randint(-9, 9), source.randint(1, 5))).number(), some_number(source, bound).number())
-
-
-def own_led(turn, z, bound):
-    """Where a turn leads a Pair, as a Pair; None for nowhere."""
-    unit, centre = pair(turn[0]), pair(turn[1])
-    under = Pair(1) - centre.mirrored() * z / Pair(bound)
-    return None if under == Pair(0) else unit * (z - centre) / under
-
-
 def own_apartness(z, w, bound):
     return bound * (z - w).size() / (Pair(bound) - w.mirrored() * z).size()
-
-
-WRONG_TURNS = STRANGE + BOOLS + (
-    0, (), (1, 1), ONE, (ONE,), (ONE, ZERO, ZERO), [ONE, ZERO], (HALF, ZERO), (ZERO, ZERO), (DOUBLE, ZERO), (num(1, 1), ZERO),
-    (ONE, None), (None, ZERO), (ONE, 0), (1, ZERO), ([ONE[0], ONE[1]], ZERO), (ONE, list(ZERO)), (ONE, ((2, 2), (0, 1))),
-    (((True, 1), (0, 1)), ZERO), (num(Fraction(10 ** 30, 10 ** 30 + 1)), ZERO), (ONE, True), (ONE, (0, 1)),
-)
-TOO_FAR = ((ONE, ONE), (ONE, I), (ONE, DOUBLE), (I, num(Fraction(3, 5), Fraction(-4, 5))), (ONE, num(0, Fraction(10 ** 20 + 1, 10 ** 20))))
 
 
 class TurnTest(unittest.TestCase):
