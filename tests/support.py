@@ -509,6 +509,21 @@ def refused(case, error, attribute, expected, call, *args, **named):
         case.assertEqual(one, other)
 
 
+def outcome(call, *args):
+    """What a call returns, or the class and the attributes of what it raises."""
+    try:
+        return ("returned", call(*args))
+    except ValueError as caught:
+        return ("raised", type(caught), vars(caught))
+
+
+def check_bound_left_out(case, call, *args):
+    """Assert that the bound, left out, is (1, 1); with the arguments that are passed another one tells otherwise."""
+    case.assertEqual(outcome(call, *args), outcome(call, *args, (1, 1)))
+    for other in ((2, 1), (1, 2)):
+        case.assertNotEqual(outcome(call, *args), outcome(call, *args, other), (call, args, other))
+
+
 def check_refusals(case, call, parameters, order=None):
     """Try each wrong value at each place, alone and ahead of wrong ones behind it, by position and by name.
 

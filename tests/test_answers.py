@@ -6,7 +6,8 @@ import unittest
 from fractions import Fraction
 
 from tests.support import (
-    HALF, ONE, SHAPES, WRONG_BOUNDS, WRONG_DATA, WRONG_NUMBERS, WRONG_PLACES, WRONG_QUOTIENTS, Pair, check_refusals,
+    HALF, ONE, SHAPES, WRONG_BOUNDS, WRONG_DATA, WRONG_NUMBERS, WRONG_PLACES, WRONG_QUOTIENTS, Pair,
+    check_bound_left_out, check_refusals,
     cut, data_from, frac, from_roots, given, indexed, made_quotient, mirrored_data, mirrored_row_of, num, pair,
     quotient_at, reduced_fraction, reduced_number, refused, rim, rim_one, row, shape_at, some_pair, some_places,
     times_rows, told, value_of,
@@ -400,11 +401,18 @@ class RefusalTest(unittest.TestCase):
                 refused(self, InvalidFraction, "given", value, call, EDGE, (row(9), row(1)), value)
 
     def test_left_out_the_bound_is_one(self):
-        self.assertEqual(answer(TWO, NOTHING), answer(TWO, NOTHING, (1, 1)))
-        self.assertEqual(told_back(TWO, (row(0, HALF), row(1))), told_back(TWO, (row(0, HALF), row(1)), (1, 1)))
-        self.assertEqual(the_one(EDGE), the_one(EDGE, (1, 1)))
-        self.assertEqual(some_answer(TWO), some_answer(TWO, (1, 1)))
-        self.assertEqual(values_at(TWO, QUARTER), values_at(TWO, QUARTER, (1, 1)))
+        check_bound_left_out(self, answer, TWO, (row(num(Fraction(9, 10))), row(1)))
+        found = answer(TWO, LINE)
+        check_bound_left_out(self, told_back, TWO, found)
+        check_bound_left_out(self, the_one, EDGE)
+        self.assertEqual(some_answer(EDGE), LINE)
+        self.assertIsNone(some_answer(((ZERO, (ZERO,)), (HALF, (num(Fraction(3, 5)),)))))
+        check_bound_left_out(self, values_at, TWO, QUARTER)
+        centre, _ = values_at(TWO, num(Fraction(-1, 2)))
+        edge = (pair(centre) + Pair(0, Fraction(5, 14))).number()
+        for value, other in ((edge, False), ((pair(edge) + Pair(0, Fraction(1, 100))).number(), True)):
+            self.assertIs(goes_along(TWO, num(Fraction(-1, 2)), value), not other)
+            self.assertIs(goes_along(TWO, num(Fraction(-1, 2)), value, (2, 1) if other else (99, 100)), other)
         self.assertIs(goes_along(TWO, QUARTER, num(2)), False)
         self.assertIs(goes_along(TWO, QUARTER, num(2), (4000, 1)), True)
 

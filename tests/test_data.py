@@ -6,7 +6,7 @@ from fractions import Fraction
 
 from tests.support import (
     BOOLS, HALF, ONE, SHAPES, STRANGE, WRONG_BOUNDS, WRONG_DATA, WRONG_NUMBERS, WRONG_PLACES, WRONG_QUOTIENTS, Pair,
-    check_refusals, data_from, given, indexed, kernel_by_h, made_quotient, num, own_table, pair, rim, row, shape_at,
+    check_bound_left_out, check_refusals, data_from, given, indexed, kernel_by_h, made_quotient, num, own_table, pair, rim, row, shape_at,
     some_pair, some_row, told,
 )
 from withinrim.data import does_have, is_data, joined, many_values, table_of
@@ -178,6 +178,9 @@ class RefusalTest(unittest.TestCase):
         check_refusals(self, does_have, (data, ("quotient", given(InvalidQuotient, WRONG_QUOTIENTS), (row(0, 1), row(1)))))
         check_refusals(self, joined, (data, ("place", given(InvalidPlace, WRONG_PLACES), num(0, Fraction(1, 3))),
                                       ("value", given(InvalidNumber, WRONG_NUMBERS), num(5, 6))))
+
+    def test_left_out_the_bound_is_one(self):
+        check_bound_left_out(self, table_of, TWO)
 
     def test_places_near_the_rim(self):
         near = Fraction(10 ** 30 - 1, 10 ** 30)

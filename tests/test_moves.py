@@ -5,7 +5,7 @@ import unittest
 from fractions import Fraction
 
 from tests.support import (
-    HALF, ONE, SHAPES, TOO_FAR, WRONG_BOUNDS, WRONG_DATA, WRONG_TURNS, Pair, check_refusals, cut, data_from, frac, given,
+    HALF, ONE, SHAPES, TOO_FAR, WRONG_BOUNDS, WRONG_DATA, WRONG_TURNS, Pair, check_bound_left_out, check_refusals, cut, data_from, frac, given,
     indexed, made_quotient, num, own_led, own_value_table, pair, quotient_at, refused, rim, rim_one, row, shape_at,
     some_pair, some_places, some_turn, times_rows, told,
 )
@@ -172,6 +172,8 @@ class NoughtsTest(unittest.TestCase):
                             (((ZERO, (HALF,)), (HALF, (num(2),))), (1, 1)), (((ZERO, (ONE,)), (HALF, (num(4),))), (4, 1))):
             refused(self, NotNow, None, None, to_noughts, data, bound)
         self.assertEqual(to_noughts(FAR)[2], FAR)
+        # Only the first value of the first place has to be below the bound.
+        self.assertEqual(to_noughts(((ZERO, (ZERO, num(9))),))[2], ((ZERO, (ZERO, num(9))),))
         self.assertEqual(to_noughts(((ZERO, (HALF,)), (HALF, (num(3),))))[2][1], (HALF, (num(-5),)))
 
 
@@ -248,8 +250,10 @@ class RefusalTest(unittest.TestCase):
             refused(self, InvalidData, "index", index, moved_values, value, (ONE, num(2)))
 
     def test_left_out_the_bound_is_one(self):
-        self.assertEqual(moved_values(MATE, SHIFT), moved_values(MATE, SHIFT, (1, 1)))
-        self.assertEqual(to_noughts(MATE), to_noughts(MATE, (1, 1)))
+        check_bound_left_out(self, moved_values, MATE, (ONE, num(Fraction(9, 10))))
+        refused(self, InvalidTurn, "given", (ONE, ONE), moved_values, MATE, (ONE, ONE))
+        check_bound_left_out(self, to_noughts, ((HALF, (num(Fraction(9, 10)),)), (ZERO, (HALF,))))
+        refused(self, NotNow, None, None, to_noughts, ((ZERO, (ONE,)),))
 
 
 if __name__ == "__main__":

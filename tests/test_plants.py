@@ -141,6 +141,7 @@ WRONG_PLANTS = tuple((each, None) for each in STRANGE if type(each) is not tuple
     # REST: TOP (), roots in the disc or on the rim, of TOP or UNDER.
     with_rest(((), row(1))), with_rest((row(0, 1), row(1))), with_rest((row(1, -1), row(1))), with_rest((row(1, 2), row(1))), with_rest((row(1), row(1, -2))),
     with_rest((row(1), row(1, Pair(0, 1)))), with_rest((row(2, 1), row(1, 0, 4))), with_rest((row(1, Fraction(1, 2)), row(2, 1))),
+    with_rest((row(1, 2), row(1, -2))), with_rest((row(1, 1), row(1, -1))),
 )
 
 

@@ -1,13 +1,12 @@
 """withinrim.rims: rim ones, what they take and how often, goings round, and rim ones at one another's values."""
 
-import itertools
 import random
 import unittest
 from fractions import Fraction
 
 from tests.support import (
     BOOLS, HALF, ONE, SHAPES, STRANGE, WRONG_BOUNDS, WRONG_FACTORS, WRONG_NUMBERS, WRONG_PLACES, WRONG_QUOTIENTS,
-    WRONG_ROWS, Pair, check_refusals, cut, data_from, frac, from_roots, given, indexed, made_quotient, num, pair,
+    WRONG_ROWS, Pair, check_bound_left_out, check_refusals, cut, data_from, frac, from_roots, given, indexed, made_quotient, num, pair,
     quotient_at, refused, rim, rim_one, row, shape_at, some_pair, some_places, times_rows, told, value_of,
 )
 from withinrim.answers import answer, told_back
@@ -317,6 +316,10 @@ class RefusalTest(unittest.TestCase):
         number = ("number", given(InvalidNumber, WRONG_FACTORS), DOUBLE)
         check_refusals(self, rim_of, (number, ("row", given(InvalidRow, WRONG_ROWS + ((), row(1, 1), row(-3, 1), row(0, 0, 1, 1))), row(0, 1))))
         check_refusals(self, rim_of_places, (number, ("places", indexed(InvalidPlaces, WRONG_PLACE_TUPLES), (ZERO,))))
+
+    def test_left_out_the_bound_is_one(self):
+        self.assertEqual([is_rim_one(each) for each in (SQUARE, SLOW, (row(Pair(1, 1)), row(1)))], [True, False, False])
+        check_bound_left_out(self, is_rim_one, SQUARE)
 
     def test_no_size_of_a_rim_one_is_told_for_another_bound(self):
         for quotient, factor, _ in rim_cases(118, 4):

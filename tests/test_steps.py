@@ -6,7 +6,8 @@ import unittest
 from fractions import Fraction
 
 from tests.support import (
-    HALF, ONE, SHAPES, WRONG_BOUNDS, WRONG_DATA, WRONG_NUMBERS, WRONG_PLACES, Pair, check_refusals, cut, data_from,
+    HALF, ONE, SHAPES, WRONG_BOUNDS, WRONG_DATA, WRONG_NUMBERS, WRONG_PLACES, Pair, check_bound_left_out, check_refusals,
+    cut, data_from,
     frac, given, indexed, num, out_of, pair, rank_of_rows, refused, rim, rim_one, row, shape_at, some_pair, some_places,
     times_rows, told, value_of,
 )
@@ -270,10 +271,11 @@ class RefusalTest(unittest.TestCase):
             refused(self, InvalidFraction, "given", bound, step_table, HALF, num(9), bound)
 
     def test_left_out_the_bound_is_one(self):
-        for data, _, _, _ in rim_cases(24, ((1, 1), (2, 1))):
-            for call in (knots, standing, four_rows):
-                self.assertEqual(call(data), call(data, (1, 1)))
-        self.assertEqual(step_table(HALF, QUARTER), step_table(HALF, QUARTER, (1, 1)))
+        wide = ((HALF, (num(Fraction(9, 10)), num(Fraction(1, 10)))), (ZERO, (num(Fraction(4, 5)),)))
+        for call in (step, knots, four_rows):
+            check_bound_left_out(self, call, wide)
+        check_bound_left_out(self, standing, EDGE)
+        check_bound_left_out(self, step_table, HALF, num(Fraction(9, 10)))
 
     def test_rim_values(self):
         for x in (Fraction(0), Fraction(1, 2), Fraction(-3), Fraction(7, 5)):

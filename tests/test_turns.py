@@ -5,7 +5,8 @@ import unittest
 from fractions import Fraction
 
 from tests.support import (
-    HALF, ONE, TOO_FAR, WRONG_BOUNDS, WRONG_NUMBERS, WRONG_TURNS, Pair, check_refusals, frac, given, num, own_led, pair,
+    HALF, ONE, TOO_FAR, WRONG_BOUNDS, WRONG_NUMBERS, WRONG_TURNS, Pair, check_bound_left_out, check_refusals, frac,
+    given, num, own_led, pair,
     quotient_at, reduced_fraction, reduced_number, refused, rim, rim_one, row, some_number, some_pair, some_places,
     some_turn, told,
 )
@@ -234,11 +235,14 @@ class RefusalTest(unittest.TestCase):
             self.assertEqual(led((ONE, ZERO), value, (2, 1)), value)
 
     def test_left_out_the_bound_is_one(self):
-        self.assertEqual(led(SHIFT, ZERO), led(SHIFT, ZERO, (1, 1)))
-        self.assertEqual(behind(SHIFT, SHIFT), behind(SHIFT, SHIFT, (1, 1)))
-        self.assertEqual(turn_quotient(SHIFT), turn_quotient(SHIFT, (1, 1)))
-        self.assertEqual(turn_between(ZERO, HALF, HALF, ZERO), turn_between(ZERO, HALF, HALF, ZERO, (1, 1)))
-        self.assertEqual(apartness(ZERO, HALF), apartness(ZERO, HALF, (1, 1)))
+        near = num(Fraction(9, 10))
+        self.assertEqual([is_turn((ONE, near)), is_turn((ONE, ONE))], [True, False])
+        check_bound_left_out(self, led, SHIFT, HALF[:1] + ((1, 3),))
+        check_bound_left_out(self, behind, SHIFT, SHIFT)
+        check_bound_left_out(self, turn_quotient, SHIFT)
+        check_bound_left_out(self, apartness, ZERO, HALF)
+        self.assertEqual(turn_between(ZERO, near, ZERO, num(0, Fraction(9, 10))), (I, ZERO))
+        refused(self, InvalidNumber, "given", ONE, turn_between, ZERO, ONE, ZERO, ONE)
 
 
 if __name__ == "__main__":

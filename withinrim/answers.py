@@ -5,11 +5,12 @@ from withinrim.errors import NotNow
 from withinrim.helds import keeps_to
 from withinrim.numbers import need_bound, need_number
 from withinrim.plain import (
-    UNIT, ZERO, fraction_less, fraction_over, fraction_times, less, mirror, order, part_of, scaled, size_of, times,
+    UNIT, ZERO, fraction_less, fraction_over, fraction_times, less, mirror, order, over, part_of, plus, scaled, size_of,
+    times,
 )
-from withinrim.quotients import brought_down, need_quotient, quotient_at
-from withinrim.rows import negative, product_of, sum_of, value_at
-from withinrim.steps import rows_along, walk, word_of
+from withinrim.quotients import brought_down, need_quotient
+from withinrim.rows import negative, product_of, sum_of
+from withinrim.steps import rows_along, rows_at, walk, word_of
 
 
 def led_by(rows, quotient):
@@ -27,9 +28,9 @@ def one_behind(pairs, left, bound):
     return led_by(rows_along(pairs, bound), ((number,), (UNIT,)))
 
 
-def disc_at(rows, place, bound):
-    """(CENTRE, SQUARE) of the disc of values that the FOUR ROWS tell at a PLACE that is none of DATA's."""
-    a, b, c, d = [value_at(each, place) for each in rows]
+def disc_of(numbers, bound):
+    """(CENTRE, SQUARE) of the disc of values at a PLACE that is none of DATA's, the FOUR ROWS having these there."""
+    a, b, c, d = numbers
     weight = fraction_less(size_of(d), fraction_times(bound, size_of(c)))
     centre = less(times(b, mirror(d)), scaled(times(a, mirror(c)), bound))
     square = fraction_times(bound, size_of(less(times(a, d), times(b, c))))
@@ -45,9 +46,12 @@ def values_told(data, place, bound):
     first = first_value(data, place)
     if first is not None:
         return (first, ZERO)
-    if word == "one":
-        return (quotient_at(one_behind(pairs, left, bound), place), ZERO)
-    return disc_at(rows_along(pairs, bound), place, bound)
+    numbers = rows_at(pairs, place, bound)
+    if word == "many":
+        return disc_of(numbers, bound)
+    a, b, c, d = numbers
+    number = left[0][1][0]
+    return (over(plus(times(a, number), b), plus(times(c, number), d)), ZERO)
 
 
 def rows_of_many(data, bound):

@@ -11,8 +11,8 @@ from withinrim.rows import negative, product_of, sum_of
 from withinrim.squares import counted
 from withinrim.tables import is_table
 
-# Functions that are told of "whole rows" take lists of whole numbers, from the constant on, the last one above 0;
-# of those that they take here all roots are real, and no root is there twice.
+# Functions that are told of "whole rows" take lists of whole numbers, from the constant on, the last one above 0 (or
+# below, where roots alone are counted); all roots are real, and no root is there twice.
 
 
 def is_pencil(value):
@@ -64,16 +64,12 @@ def row_along(pencil):
     return tuple(fraction_over(each, parts[-1]) for each in parts)
 
 
-def positive_end(p):
-    """The numbers with all signs changed if the last one is below 0."""
-    return p if p[-1] > 0 else [-each for each in p]
-
-
 def single_row(pencil):
     """A whole row with the roots of the pencil's row, each just once."""
     p = whole_real(row_along(pencil))[0]
+    # All roots being real, the last numbers all along this chain are above 0, and so is that of what is left.
     shared = chain_of(p, slope_of(p))[-1]
-    return positive_end(parted(p, shared)[0])
+    return parted(p, shared)[0]
 
 
 def stretched(p, count):
@@ -97,7 +93,7 @@ def from_on(p, at):
 
 def edge_of(p):
     """A whole number above all sizes of roots of a whole row, not of degree 0."""
-    # The last three numbers tell the sum of all squares of roots, and none of these is above it.
+    # The last three numbers tell the sum of the squares of all roots, and none of these is above it.
     ahead = p[-3] if len(p) > 2 else 0
     return isqrt((p[-2] * p[-2] - 2 * p[-1] * ahead) // (p[-1] * p[-1])) + 1
 
@@ -105,11 +101,11 @@ def edge_of(p):
 def floor_of(p):
     """The greatest whole number up to the greatest root of a whole row, not of degree 0."""
     slope, at = slope_of(p), edge_of(p)
-    value = times_bottoms(p, (at, 1))
-    # From above, value over slope leads down, and never past the greatest root, as all roots are real.
-    while value > 0 and value >= times_bottoms(slope, (at, 1)):
-        at -= value // times_bottoms(slope, (at, 1))
-        value = times_bottoms(p, (at, 1))
+    value, steep = times_bottoms(p, (at, 1)), times_bottoms(slope, (at, 1))
+    # Value over slope, which is above 0 from the greatest root on, leads down and never past it: all roots are real.
+    while value >= steep:
+        at -= value // steep
+        value, steep = times_bottoms(p, (at, 1)), times_bottoms(slope, (at, 1))
     while from_on(p, at) == 0:
         at -= 1
     return at
@@ -117,15 +113,14 @@ def floor_of(p):
 
 def order_of_greatest(p, q):
     """-1, 0, 1 as the greatest root of one whole row is below that of another one, alike, above it."""
-    shared = positive_end(chain_of(p, q)[-1])
+    shared = chain_of(p, q)[-1]
     count = 1
     while True:
         one, two = floor_of(stretched(p, count)), floor_of(stretched(q, count))
         if one != two:
             return -1 if one < two else 1
-        # Alone from the floor on, both are alike if it is a root of both, too; else finer floors part them.
-        alone = from_on(stretched(p, count), one) == 1 and from_on(stretched(q, count), two) == 1
-        if alone and len(shared) > 1 and from_on(stretched(shared, count), one) == 1:
+        # Each alone from the floor on, they are alike if a root of both is there, too; else finer floors part them.
+        if all(from_on(stretched(each, count), one) == 1 for each in (p, q, shared)):
             return 0
         count = 2 * count * count
 

@@ -44,14 +44,6 @@ def degree_of(quotient):
     return max(len(top), len(under)) - 1
 
 
-def quotient_at(quotient, number):
-    """The value of a QUOTIENT at a NUMBER, not checked; None at a root of UNDER."""
-    under = value_at(quotient[1], number)
-    if under == NOUGHT:
-        return None
-    return over(value_at(quotient[0], number), under)
-
-
 def coefficients_at(quotient, number, many):
     """So many coefficients at a NUMBER, not checked; None at a root of UNDER."""
     top, under = quotient
@@ -118,7 +110,10 @@ def quotient_value(quotient, number):
     """The value at the NUMBER; None at a root of UNDER."""
     need_quotient(quotient)
     need_number(number)
-    return quotient_at(quotient, number)
+    under = value_at(quotient[1], number)
+    if under == NOUGHT:
+        return None
+    return over(value_at(quotient[0], number), under)
 
 
 def coefficients(quotient, number, many):

@@ -4,9 +4,10 @@ from withinrim.data import need_data, need_place
 from withinrim.errors import NotNow
 from withinrim.numbers import need_bound, need_number
 from withinrim.plain import (
-    NOUGHT, UNIT, less, mirror, order, part_of, series_led, series_over, series_product, size_of, times, trimmed,
+    NOUGHT, UNIT, less, mirror, order, part_of, plus, scaled, series_led, series_over, series_product, size_of, times,
+    trimmed, whole_parts,
 )
-from withinrim.rows import product_of, sum_of
+from withinrim.rows import product_of, sum_of, value_at
 
 
 def is_free(data, bound):
@@ -63,13 +64,33 @@ def table_at(place, value, bound):
     )
 
 
+def multiplied(row, fraction):
+    """A ROW times a fraction other than 0."""
+    return tuple(scaled(each, fraction) for each in row)
+
+
 def rows_along(pairs, bound):
     """The product of the step tables of knots in order, as (A, B, C, D)."""
-    a, b, c, d = (UNIT,), (), (), (UNIT,)
+    a, b, c, d, bottom = (UNIT,), (), (), (UNIT,), 1
     for place, value in pairs:
         (e, f), (g, h) = table_at(place, value, bound)
+        # Over whole numbers nothing has to be reduced before the product stands.
+        many = whole_parts(e + f + g + h)[2]
+        e, f, g, h = [multiplied(each, (many, 1)) for each in (e, f, g, h)]
         a, b = sum_of(product_of(a, e), product_of(b, g)), sum_of(product_of(a, f), product_of(b, h))
         c, d = sum_of(product_of(c, e), product_of(d, g)), sum_of(product_of(c, f), product_of(d, h))
+        bottom = bottom * many
+    return tuple(multiplied(each, (1, bottom)) for each in (a, b, c, d))
+
+
+def rows_at(pairs, place, bound):
+    """The NUMBERs that (A, B, C, D) of knots have at a PLACE."""
+    a, b, c, d = UNIT, NOUGHT, NOUGHT, UNIT
+    for knot, value in pairs:
+        (e, f), (g, h) = table_at(knot, value, bound)
+        e, f, g, h = [value_at(each, place) for each in (e, f, g, h)]
+        a, b = plus(times(a, e), times(b, g)), plus(times(a, f), times(b, h))
+        c, d = plus(times(c, e), times(d, g)), plus(times(c, f), times(d, h))
     return a, b, c, d
 
 
