@@ -1,6 +1,7 @@
 """What the tests share: exact numbers of their own to compare with, made rows, wrong values, and refusals."""
 
 import copy
+import random
 from fractions import Fraction
 from math import comb, gcd
 
@@ -541,3 +542,102 @@ def check_refusals(case, call, parameters, order=None):
             for later in order[rank + 1:]:
                 args[later] = parameters[later][1][2][0][0]
             refused(case, error, attribute, expected, call, *args)
+
+
+# Plants: SURE has the pole 1 / 2, LATER (1 + i) / 2, both the zero 0 alone.
+CORNER, LESS = num(Fraction(1, 2), Fraction(1, 2)), num(Fraction(-1, 2))
+UNIT, START = (row(1), row(1)), ((NOUGHT, 1),)
+SURE, LATER = (START, ((HALF, 1),), UNIT), (START, ((CORNER, 1),), UNIT)
+REST = (row(3, Pair(0, 1)), row(1, Fraction(1, 2), Fraction(-1, 5)))
+
+
+def plant_cases(seed):
+    """Plants with zeros and poles of all counts up to 6 in all, and other RESTs."""
+    source = random.Random(seed)
+    for zeros in ((1,), (2,), (3,), (1, 1), (1, 2), (3, 3), (1, 1, 1), (1, 1, 1, 1, 1, 1)):
+        for poles in ((), (1,), (3,), (1, 2), (1, 1, 1)):
+            if sum(zeros) + sum(poles) > 6:
+                continue
+            places = [each for each in some_places(source, len(zeros) + len(poles) + 1, (2, 3, 4)) if each != Pair(0)]
+            places = [Pair(0)] + places
+            first = tuple((place.number(), many) for place, many in zip(places, zeros))
+            if source.randint(0, 1):
+                first = first[::-1]
+            second = tuple((place.number(), many) for place, many in zip(places[len(zeros):], poles))
+            rest = source.choice((UNIT, REST, (row(Pair(0, -7)), row(1)), (row(1), row(1, Fraction(-2, 3))), (row(5, 1, 1), row(1))))
+            yield first, second, rest
+
+
+def with_zeros(value):
+    return (value, (), UNIT), 0
+
+
+def with_poles(value):
+    return (START, value, UNIT), 1
+
+
+def with_rest(value):
+    return (START, (), value), 2
+
+
+WRONG_PAIRS = tuple(each for each in STRANGE if type(each) is not tuple) + (
+    True, 0, (None,), (NOUGHT,), (ONE,), ((HALF,),), ((HALF, 1, 1),), ([HALF, 1],), ((HALF, 0),), ((HALF, 4),), ((HALF, -1),), ((HALF, True),),
+    ((HALF, False),), ((HALF, (1, 1)),), ((HALF, "1"),), ((HALF, None),), ((HALF, Fraction(1)),), ((ONE, 1),), ((num(0, 2), 1),), ((1, HALF),),
+    ((HALF, 1), None), ((HALF, 1), (HALF, 1)), ((HALF, 1), (LESS, 1), (HALF, 2)), ((HALF, 1), (LESS, 4)), ((((2, 4), (0, 1)), 1),),
+) + tuple(((each, 1),) for each in WRONG_PLACES)
+WRONG_PLANTS = tuple((each, None) for each in STRANGE if type(each) is not tuple or len(each) != 3) + (
+    (True, None), (0, None), ((), None), (SURE[:2], None), (SURE + (UNIT,), None), (list(SURE), None), ((None,) * 3, 0), ((1, 2, 3), 0),
+) + tuple(with_zeros(each) for each in WRONG_PAIRS) + tuple(
+    with_zeros(((NOUGHT, 1),) + each) for each in WRONG_PAIRS if type(each) is tuple and each[0] is not None
+) + tuple(with_poles(each) for each in WRONG_PAIRS) + tuple(with_rest(each) for each in WRONG_QUOTIENTS) + (
+    # 0 is none of the NOUGHTS, or twice there.
+    with_zeros(()), with_zeros(((HALF, 1),)), with_zeros(((NOUGHT, 1), (NOUGHT, 1))), with_zeros(((NOUGHT, 1), (HALF, 1), (NOUGHT, 2))),
+    ((((HALF, 1),), None, None), 0), ((START, None, None), 1), ((START, (), None), 2), ((((HALF, 1),), ((HALF, 1),), UNIT), 0),
+    # PLACEs in both lots, twice among the POLES.
+    with_poles(((NOUGHT, 1),)), with_poles(((HALF, 1), (NOUGHT, 2))), with_poles(((HALF, 1), (HALF, 1))), ((((NOUGHT, 1), (HALF, 1)), ((HALF, 1),), UNIT), 1),
+    # TIMES above 6 in all, also of NOUGHTS alone.
+    ((((NOUGHT, 3), (HALF, 3), (LESS, 1)), (), UNIT), 1), ((((NOUGHT, 3), (HALF, 3)), ((LESS, 1),), UNIT), 1), (with_poles(((HALF, 3), (LESS, 3)))),
+    ((((NOUGHT, 3), (HALF, 3), (LESS, 1)), (), None), 1), ((((NOUGHT, 3), (HALF, 3), (LESS, 1)), None, UNIT), 1),
+    ((tuple((num(Fraction(k, 9)), 1) for k in range(7)), (), UNIT), 1),
+    # REST: TOP (), roots in the disc or on the rim, of TOP or UNDER.
+    with_rest(((), row(1))), with_rest((row(0, 1), row(1))), with_rest((row(1, -1), row(1))), with_rest((row(1, 2), row(1))), with_rest((row(1), row(1, -2))),
+    with_rest((row(1), row(1, Pair(0, 1)))), with_rest((row(2, 1), row(1, 0, 4))), with_rest((row(1, Fraction(1, 2)), row(2, 1))),
+    with_rest((row(1, 2), row(1, -2))), with_rest((row(1, 1), row(1, -1))),
+)
+
+
+# What is no QUOTIENT, or is not 0 at 0.
+WRONG_PROCESSES = WRONG_QUOTIENTS + (
+    (row(1), row(1)), (row(Fraction(1, 10 ** 30), 1), row(1)), (row(Pair(0, 1), 1), row(1, 2)), (row(-1), row(1, 3)), (row(5, 0, 1), row(1)),
+)
+WRONG_KINDS = STRANGE + BOOLS + (
+    0, 1, "Left", "LEFT", "left ", " left", "echoes", "ech", "both", ("left",), ["left"], "leftecho", b"left", ("left", "echo"), {"left"},
+)
+
+
+def own_loop(process, controller):
+    """(b d, a c, a c + b d) by the tests' own arithmetic."""
+    kept, echoed = times_rows(process[1], controller[1]), times_rows(process[0], controller[0])
+    longest = max(len(kept), len(echoed))
+    one, two = [[pair(each) for each in some] + [Pair(0)] * (longest - len(some)) for some in (kept, echoed)]
+    return kept, echoed, cut(x + y for x, y in zip(one, two))
+
+
+def own_data_of(plant, kind):
+    """The loop's DATA, pair by pair."""
+    zeros, poles, _ = plant
+    found = []
+    for pairs, first in ((zeros, kind == "left"), (poles, kind == "echo")):
+        for place, many in pairs:
+            found.append((place, ((ONE if first else NOUGHT),) + (NOUGHT,) * (many - 1)))
+    return tuple(found)
+
+
+def product_of_sizes(place, pairs):
+    """The product of the sizes squared of (place - x) / (1 - x' place) over the pairs, as often as they are."""
+    total, at = Fraction(1), pair(place)
+    for each, many in pairs:
+        x = pair(each)
+        for _ in range(many):
+            total *= ((at - x) / (Pair(1) - x.mirrored() * at)).size()
+    return total

@@ -113,16 +113,70 @@ True
 ((((-1, 2), (0, 1)), (((0, 1), (0, 1)), ((4, 3), (0, 1)))),)
 '''
 
-PLANTS = '''
+LOOPS = '''
+>>> from withinrim.beats import beats, energy
+>>> from withinrim.bounds import controller_by, keeps, loop_data, loop_pencil, loop_standing, real_controller, some_controller, told_back_controller
+>>> from withinrim.loops import blended, controller_of, echo_of, is_steadied, left_of, loop_row
 >>> from withinrim.numbers import number_of
+>>> from withinrim.pencils import least_fraction
 >>> from withinrim.plants import is_plant, is_real_plant, mirrored_plant, quotient_of_plant
 >>> nought, one, half, corner = number_of(0), number_of(1), number_of(1, 0, 2), number_of(1, 1, 2)
 >>> sure, later = (((nought, 1),), ((half, 1),), ((one,), (one,))), (((nought, 1),), ((corner, 1),), ((one,), (one,)))
 >>> p = quotient_of_plant(sure)
+>>> even, back, idle = ((number_of(-3, 0, 4),), (one,)), ((number_of(-1),), (one,)), ((), (one,))
 >>> [is_plant(sure), p == ((nought, number_of(-2)), (one, number_of(-2))), is_real_plant(sure), is_real_plant(later), mirrored_plant(later)[1] == ((number_of(1, -1, 2), 1),)]
 [True, True, True, False, True]
+>>> [loop_row(p, even) == (one, number_of(-1, 0, 2)), is_steadied(p, even), is_steadied(p, idle), left_of(p, even) == ((one, number_of(-2)), (one, number_of(-1, 0, 2))), echo_of(p, back) == ((nought, number_of(2)), (one,))]
+[True, True, False, True, True]
+>>> [controller_of(sure, ((one, number_of(-2)), (one,))) == back, controller_of(sure, ((one,), (one,))), blended(sure, even, back, one) == back]
+[True, None, True]
+>>> [least_fraction(loop_pencil(sure, "left")), least_fraction(loop_pencil(sure, "echo")), least_fraction(loop_pencil(later, "left"))]
+[(4, 1), (4, 1), (2, 1)]
+>>> [loop_standing(sure, "left", (3, 1)), loop_standing(sure, "left", (4, 1)), loop_standing(sure, "left", (5, 1)), some_controller(sure, "left", (3, 1)), loop_data(sure, "echo") == ((nought, (nought,)), (half, (one,)))]
+['none', 'one', 'many', None, True]
+>>> [some_controller(sure, "left", (4, 1)) == even, some_controller(sure, "echo", (4, 1)) == back, some_controller(later, "left", (2, 1)) == ((number_of(-1, 0, 2),), (one,)), real_controller(sure, "left", (4, 1)) == even]
+[True, True, True, True]
+>>> by_idle = controller_by(sure, "left", idle, (5, 1))
+>>> [by_idle == ((number_of(-4, 0, 5),), (one,)), told_back_controller(sure, "left", by_idle, (5, 1)) == idle, told_back_controller(sure, "left", back, (5, 1)), keeps(sure, back, "left", (9, 1)), keeps(sure, back, "left", (5, 1)), keeps(sure, even, "echo", (9, 1))]
+[True, True, None, True, False, True]
+>>> [beats(p, back, (one, nought, nought)) == ((one, one), (number_of(-2), number_of(-2)), (nought, nought)), energy((one, number_of(-2))), beats(p, idle, (one,)) == ((one, nought),)]
+[True, (5, 1), True]
 >>> quotient_of_plant((((half, 1),), (), ((one,), (one,))))
 raises InvalidPlant(index=0)
+>>> is_steadied(back, back)
+raises InvalidQuotient(given=((((-1, 1), (0, 1)),), (((1, 1), (0, 1)),)))
+'''
+
+# Names of the sessions ahead.
+NAMES = '''
+>>> zero, unit, half, quarter = ((0, 1), (0, 1)), ((1, 1), (0, 1)), ((1, 2), (0, 1)), ((1, 4), (0, 1))
+>>> two, edge, far = ((zero, (zero,)), (half, (quarter,))), ((zero, (zero,)), (half, (half,))), ((zero, (zero,)), (half, (unit,)))
+>>> line, less = ((zero, unit), (unit,)), ((-1, 2), (0, 1))
+'''
+
+TEXTS = '''
+>>> from withinrim.texts import data_text, number_text, quotient_text, read_data, read_number, read_quotient, row_text
+>>> [number_text(zero), number_text(((1, 2), (-3, 1))), number_text(((0, 1), (1, 1))), row_text((less, zero, unit)), row_text(()), quotient_text(line)]
+['0', '1/2-3i', '1i', '[-1/2 0 1]', '[]', '[0 1]/[1]']
+>>> [data_text(two), read_data(data_text(two)) == two, read_number("-1/2+1/3i") == ((-1, 2), (1, 3)), read_quotient("[0 1]/[1]") == line, read_data("")]
+['0: 0\\n1/2: 1/4\\n', True, True, True, ()]
+>>> read_data("0: 0\\n1/2: 2/4\\n")
+raises InvalidText(1, 1)
+>>> read_data("0: 0\\n1/2:")
+raises InvalidText(1, 1)
+'''
+
+BOOKS = '''
+>>> from withinrim.books import Book
+>>> book = Book()
+>>> [book.put("a", zero, (zero,)), book.put("b", half, (half,)), book.standing(), book.rank(), book.the_one() == line, book.idle()]
+[None, None, 'one', 1, True, ()]
+>>> [book.put("c", less, (unit,)), book.standing(), book.clashes(), book.undo(), book.put("d", less, (less,)), book.idle(), book.change("b", (quarter,))]
+[None, 'none', (('a', 'c'), ('b', 'c')), True, None, ('a', 'b', 'd'), None]
+>>> [book.standing(), book.undo(), book.strike("a"), book.strike("b"), book.standing(), [each[0] for each in book.entries()], book.goes_along(zero, zero)]
+['none', True, None, None, 'many', ['d'], True]
+>>> book.strike("a")
+raises NotNow()
 '''
 
 
@@ -162,8 +216,14 @@ class ExamplesTest(unittest.TestCase):
     def test_data_to_moves(self):
         self.run_all(DATA_TO_MOVES)
 
-    def test_plants(self):
-        self.run_all(PLANTS)
+    def test_loops(self):
+        self.run_all(LOOPS)
+
+    def test_texts(self):
+        self.run_all(NAMES + TEXTS)
+
+    def test_books(self):
+        self.run_all(NAMES + BOOKS)
 
     def test_readme(self):
         text = (pathlib.Path(__file__).resolve().parent.parent / "README.md").read_text(encoding="ascii")

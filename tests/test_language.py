@@ -14,7 +14,8 @@ BUILTINS = set("""len range enumerate zip min max sum abs sorted reversed int st
     RuntimeError NotImplementedError""".split())
 METHODS = set("""append clear copy count endswith extend find get index insert isalnum isalpha isdigit islower isspace
     isupper items join keys ljust lower lstrip partition pop remove replace reverse rfind rjust rpartition rsplit
-    rstrip setdefault split splitlines startswith strip update upper values zfill bit_length add discard""".split())
+    rstrip setdefault split splitlines startswith strip update upper values zfill bit_length add discard
+    removeprefix removesuffix isascii""".split())
 ATONCE = {"zip", "enumerate", "reversed", "range"}
 PRODUCTS = {"product", "combinations", "permutations"}
 TAKERS = {"list", "tuple", "dict", "sorted", "sum", "min", "max", "any", "all", "enumerate", "zip", "reversed", "len"}
@@ -58,7 +59,19 @@ def bound_at_top(tree):
     return names
 
 
-def plain(node):
+def methods(tree):
+    return [node for each in tree.body if isinstance(each, ast.ClassDef) for node in each.body
+            if isinstance(node, ast.FunctionDef)]
+
+
+def plain(node, made=()):
+    """Whether it is a plain value, or a dict or a tuple of such and of functions of the file that are made above."""
+    if isinstance(node, ast.Name):
+        return node.id in made
+    if isinstance(node, ast.Dict):
+        return all(plain(each) for each in node.keys) and all(plain(each, made) for each in node.values)
+    if isinstance(node, ast.Tuple):
+        return all(plain(each, made) for each in node.elts)
     try:
         ast.literal_eval(node)
     except ValueError:
@@ -98,10 +111,13 @@ class LanguageTest(unittest.TestCase):
     def test_module_level(self):
         for name, tree in self.trees.items():
             self.assertIsNotNone(ast.get_docstring(tree), name)
+            made = []
             for node in tree.body[1:]:
                 fine = isinstance(node, (ast.ImportFrom, ast.FunctionDef, ast.ClassDef)) or (
-                    isinstance(node, ast.Assign) and len(node.targets) == 1 and plain(node.value))
+                    isinstance(node, ast.Assign) and len(node.targets) == 1 and plain(node.value, made))
                 self.assertTrue(fine, f"{name}:{node.lineno}")
+                if isinstance(node, ast.FunctionDef):
+                    made.append(node.name)
             names = bound_at_top(tree)
             self.assertEqual(len(names), len(set(names)), name)
 
@@ -211,10 +227,15 @@ class LanguageTest(unittest.TestCase):
             for node in tree.body:
                 if isinstance(node, ast.FunctionDef):
                     made[node.name] = (len(node.args.args) - len(node.args.defaults), len(node.args.args))
+        own = {node.name: len(node.args.args) - 1 for tree in self.trees.values() for node in methods(tree)}
+        self.assertEqual([name for name in own if name in METHODS], [])
         for where, node in self.each_node(ast.Call):
             if isinstance(node.func, ast.Attribute):
-                self.assertIn(node.func.attr, METHODS, where)
                 self.assertEqual(node.keywords, [], where)
+                if node.func.attr in own:
+                    self.assertEqual(len(node.args), own[node.func.attr], where)
+                else:
+                    self.assertIn(node.func.attr, METHODS, where)
                 continue
             self.assertIsInstance(node.func, ast.Name, where)
             if node.func.id in made and not any(isinstance(each, ast.Starred) for each in node.args):
@@ -242,10 +263,34 @@ class LanguageTest(unittest.TestCase):
                 if isinstance(changed, ast.Name):
                     self.assertNotIn(changed.id, gone_over, where)
 
-    def test_errors_have_no_other_bases(self):
+    def test_classes(self):
         for where, node in self.each_node(ast.ClassDef):
-            self.assertTrue(where.startswith("errors:"), "classes elsewhere: look up their rules")
-            self.assertEqual(len(node.bases), 1, where)
+            self.assertEqual(len(node.bases), 1 if where.startswith("errors:") else 0, where)
+            self.assertEqual(node.decorator_list + node.keywords, [], where)
+            names = [each.name for each in node.body if isinstance(each, ast.FunctionDef)]
+            self.assertEqual(len(names), len(set(names)), where)
+            self.assertTrue(all(name == "__init__" or not name.startswith("__") for name in names), where)
+            for each in node.body[1:]:
+                self.assertIsInstance(each, ast.FunctionDef, where)
+                self.assertEqual(each.args.args[0].arg, "self", where)
+            for each in ast.walk(node):
+                if isinstance(each, ast.Attribute) and isinstance(each.ctx, ast.Store):
+                    self.assertNotIn(each.attr, names, where)
+                    self.assertIsInstance(each.value, ast.Name, where)
+
+    def test_attributes_are_assigned_somewhere(self):
+        assigned = {node.attr for _, node in self.each_node(ast.Attribute) if isinstance(node.ctx, ast.Store)}
+        self.assertEqual(assigned & METHODS - {"index"}, set())
+        for where, node in self.each_node(ast.Attribute):
+            if isinstance(node.ctx, ast.Load) and not isinstance(node.above, ast.Call):
+                self.assertIn(node.attr, assigned, where)
+
+    def test_caught_errors_are_own(self):
+        own = {node.name for node in self.trees["errors"].body if isinstance(node, ast.ClassDef)}
+        for where, node in self.each_node(ast.ExceptHandler):
+            self.assertIsInstance(node.type, ast.Name, where)
+            self.assertIn(node.type.id, own, where)
+            self.assertIsNone(node.name, where)
 
 
 if __name__ == "__main__":

@@ -1,39 +1,18 @@
 """withinrim.plants: what plants are, their QUOTIENTs, mirrored and real ones."""
 
-import random
 import unittest
 from fractions import Fraction
 
 from tests.support import (
-    BOOLS, HALF, ONE, STRANGE, WRONG_PLACES, WRONG_QUOTIENTS, Pair, check_refusals, from_roots, indexed, made_quotient,
-    mirrored_row_of, num, pair, row, some_places, times_rows,
+    BOOLS, CORNER, HALF, LATER, LESS, REST, START, STRANGE, SURE, UNIT, WRONG_PLANTS, Pair, check_refusals, from_roots,
+    indexed, made_quotient, mirrored_row_of, num, pair, plant_cases, row, times_rows,
 )
 from withinrim.errors import InvalidPlant
 from withinrim.plants import is_plant, is_real_plant, mirrored_plant, quotient_of_plant
 from withinrim.quotients import is_quotient, quotient_value
 from withinrim.rootcounts import root_counts, times_root
 
-ZERO, CORNER, LESS = num(0), num(Fraction(1, 2), Fraction(1, 2)), num(Fraction(-1, 2))
-UNIT, START = (row(1), row(1)), ((ZERO, 1),)
-SURE, LATER = (START, ((HALF, 1),), UNIT), (START, ((CORNER, 1),), UNIT)
-REST = (row(3, Pair(0, 1)), row(1, Fraction(1, 2), Fraction(-1, 5)))
-
-
-def plant_cases(seed):
-    """Plants with zeros and poles of all counts up to 6 in all, and other RESTs."""
-    source = random.Random(seed)
-    for zeros in ((1,), (2,), (3,), (1, 1), (1, 2), (3, 3), (1, 1, 1), (1, 1, 1, 1, 1, 1)):
-        for poles in ((), (1,), (3,), (1, 2), (1, 1, 1)):
-            if sum(zeros) + sum(poles) > 6:
-                continue
-            places = [each for each in some_places(source, len(zeros) + len(poles) + 1, (2, 3, 4)) if each != Pair(0)]
-            places = [Pair(0)] + places
-            first = tuple((place.number(), many) for place, many in zip(places, zeros))
-            if source.randint(0, 1):
-                first = first[::-1]
-            second = tuple((place.number(), many) for place, many in zip(places[len(zeros):], poles))
-            rest = source.choice((UNIT, REST, (row(Pair(0, -7)), row(1)), (row(1), row(1, Fraction(-2, 3))), (row(5, 1, 1), row(1))))
-            yield first, second, rest
+ZERO = num(0)
 
 
 class PlantTest(unittest.TestCase):
@@ -105,44 +84,6 @@ class MirroredTest(unittest.TestCase):
         for plant in plant_cases(144):
             top, under = quotient_of_plant(plant)
             self.assertIs(is_real_plant(plant=plant), all(each[1] == (0, 1) for each in top + under))
-
-
-def with_zeros(value):
-    return (value, (), UNIT), 0
-
-
-def with_poles(value):
-    return (START, value, UNIT), 1
-
-
-def with_rest(value):
-    return (START, (), value), 2
-
-
-WRONG_PAIRS = tuple(each for each in STRANGE if type(each) is not tuple) + (
-    True, 0, (None,), (ZERO,), (ONE,), ((HALF,),), ((HALF, 1, 1),), ([HALF, 1],), ((HALF, 0),), ((HALF, 4),), ((HALF, -1),), ((HALF, True),),
-    ((HALF, False),), ((HALF, (1, 1)),), ((HALF, "1"),), ((HALF, None),), ((HALF, Fraction(1)),), ((ONE, 1),), ((num(0, 2), 1),), ((1, HALF),),
-    ((HALF, 1), None), ((HALF, 1), (HALF, 1)), ((HALF, 1), (LESS, 1), (HALF, 2)), ((HALF, 1), (LESS, 4)), ((((2, 4), (0, 1)), 1),),
-) + tuple(((each, 1),) for each in WRONG_PLACES)
-WRONG_PLANTS = tuple((each, None) for each in STRANGE if type(each) is not tuple or len(each) != 3) + (
-    (True, None), (0, None), ((), None), (SURE[:2], None), (SURE + (UNIT,), None), (list(SURE), None), ((None,) * 3, 0), ((1, 2, 3), 0),
-) + tuple(with_zeros(each) for each in WRONG_PAIRS) + tuple(
-    with_zeros(((ZERO, 1),) + each) for each in WRONG_PAIRS if type(each) is tuple and each[0] is not None
-) + tuple(with_poles(each) for each in WRONG_PAIRS) + tuple(with_rest(each) for each in WRONG_QUOTIENTS) + (
-    # 0 is none of the ZEROS, or twice there.
-    with_zeros(()), with_zeros(((HALF, 1),)), with_zeros(((ZERO, 1), (ZERO, 1))), with_zeros(((ZERO, 1), (HALF, 1), (ZERO, 2))),
-    ((((HALF, 1),), None, None), 0), ((START, None, None), 1), ((START, (), None), 2), ((((HALF, 1),), ((HALF, 1),), UNIT), 0),
-    # PLACEs in both lots, twice among the POLES.
-    with_poles(((ZERO, 1),)), with_poles(((HALF, 1), (ZERO, 2))), with_poles(((HALF, 1), (HALF, 1))), ((((ZERO, 1), (HALF, 1)), ((HALF, 1),), UNIT), 1),
-    # TIMES above 6 in all, also of ZEROS alone.
-    ((((ZERO, 3), (HALF, 3), (LESS, 1)), (), UNIT), 1), ((((ZERO, 3), (HALF, 3)), ((LESS, 1),), UNIT), 1), (with_poles(((HALF, 3), (LESS, 3)))),
-    ((((ZERO, 3), (HALF, 3), (LESS, 1)), (), None), 1), ((((ZERO, 3), (HALF, 3), (LESS, 1)), None, UNIT), 1),
-    ((tuple((num(Fraction(k, 9)), 1) for k in range(7)), (), UNIT), 1),
-    # REST: TOP (), roots in the disc or on the rim, of TOP or UNDER.
-    with_rest(((), row(1))), with_rest((row(0, 1), row(1))), with_rest((row(1, -1), row(1))), with_rest((row(1, 2), row(1))), with_rest((row(1), row(1, -2))),
-    with_rest((row(1), row(1, Pair(0, 1)))), with_rest((row(2, 1), row(1, 0, 4))), with_rest((row(1, Fraction(1, 2)), row(2, 1))),
-    with_rest((row(1, 2), row(1, -2))), with_rest((row(1, 1), row(1, -1))),
-)
 
 
 class RefusalTest(unittest.TestCase):

@@ -62,40 +62,30 @@ def rows_of_many(data, bound):
     return rows_along(pairs, bound)
 
 
-def answer(data, quotient, bound=(1, 1)):
-    """The answer (A s + B) / (C s + D) for the QUOTIENT s."""
-    need_data(data)
-    need_quotient(quotient)
-    need_bound(bound)
+def answer_for(data, quotient, bound):
+    """The answer for a QUOTIENT, both not checked; refused unless the standing is "many" and it is up to the bound."""
     rows = rows_of_many(data, bound)
     if not keeps_to(quotient, bound):
         raise NotNow()
     return led_by(rows, quotient)
 
 
-def told_back(data, quotient, bound=(1, 1)):
-    """The s of which the QUOTIENT is the answer; None for one that is not up to the bound or has not DATA."""
-    need_data(data)
-    need_quotient(quotient)
-    need_bound(bound)
+def back_from(data, quotient, bound):
+    """What a QUOTIENT is the answer for, both not checked; None for none; refused unless the standing is "many"."""
     a, b, c, d = rows_of_many(data, bound)
     found = led_by((d, negative(b), negative(c), a), quotient)
     # The answers are those of all s up to the bound: so it is one exactly if what is told back is such an s.
     return found if found is not None and keeps_to(found, bound) else None
 
 
-def the_one(data, bound=(1, 1)):
-    """The one QUOTIENT; None unless the standing is "one"."""
-    need_data(data)
-    need_bound(bound)
+def one_for(data, bound):
+    """The one QUOTIENT, not checked; None unless the standing is "one"."""
     pairs, left = walk(data, bound)
     return one_behind(pairs, left, bound) if word_of(left, bound) == "one" else None
 
 
-def some_answer(data, bound=(1, 1)):
-    """Some QUOTIENT up to the bound that has DATA; None if there is none."""
-    need_data(data)
-    need_bound(bound)
+def some_for(data, bound):
+    """Some QUOTIENT up to the bound that has DATA, of seven VALUES, too, not checked; None if there is none."""
     pairs, left = walk(data, bound)
     word = word_of(left, bound)
     if word == "none":
@@ -103,6 +93,55 @@ def some_answer(data, bound=(1, 1)):
     if word == "one":
         return one_behind(pairs, left, bound)
     return led_by(rows_along(pairs, bound), ((), (UNIT,)))
+
+
+def word_with(numbers, left, value, bound):
+    """The standing of DATA and of a value at a further PLACE together, not checked.
+
+    The FOUR ROWS of DATA's knots have the NUMBERs there; left is what is left of DATA behind the knots.
+    """
+    word = word_of(left, bound)
+    a, b, c, d = numbers
+    if word == "one":
+        number = left[0][1][0]
+        fits = plus(times(a, number), b) == times(value, plus(times(c, number), d))
+        return "one" if fits else "none"
+    if word == "many":
+        # The free series has to be (D f - B) / (A - C f) there, which decides as a value for no DATA does.
+        above, below = less(times(d, value), b), less(a, times(c, value))
+        side = order(size_of(above), fraction_times(bound, size_of(below)))
+        word = "one" if side == 0 else "many" if side < 0 else "none"
+    return word
+
+
+def answer(data, quotient, bound=(1, 1)):
+    """The answer (A s + B) / (C s + D) for the QUOTIENT s."""
+    need_data(data)
+    need_quotient(quotient)
+    need_bound(bound)
+    return answer_for(data, quotient, bound)
+
+
+def told_back(data, quotient, bound=(1, 1)):
+    """The s of which the QUOTIENT is the answer; None for one that is not up to the bound or has not DATA."""
+    need_data(data)
+    need_quotient(quotient)
+    need_bound(bound)
+    return back_from(data, quotient, bound)
+
+
+def the_one(data, bound=(1, 1)):
+    """The one QUOTIENT; None unless the standing is "one"."""
+    need_data(data)
+    need_bound(bound)
+    return one_for(data, bound)
+
+
+def some_answer(data, bound=(1, 1)):
+    """Some QUOTIENT up to the bound that has DATA; None if there is none."""
+    need_data(data)
+    need_bound(bound)
+    return some_for(data, bound)
 
 
 def values_at(data, place, bound=(1, 1)):

@@ -23,6 +23,11 @@ def need_place(given):
         raise InvalidPlace(given)
 
 
+def has_place(pairs, place):
+    """Whether the PLACE is that of one of the pairs, whose first elements are PLACEs."""
+    return any(each == place for each, _ in pairs)
+
+
 def is_told(value):
     """Whether it, whatever it is, is a pair (PLACE, VALUES)."""
     if not isinstance(value, tuple) or len(value) != 2:
@@ -42,7 +47,7 @@ def wrong_pair(value):
     """The index of the first wrong pair in a tuple of up to 6 elements; None if it is DATA."""
     many = 0
     for index, each in enumerate(value):
-        if not is_told(each) or any(each[0] == place for place, _ in value[:index]):
+        if not is_told(each) or has_place(value[:index], each[0]):
             return index
         many += len(each[1])
         if many > MOST_VALUES:
@@ -135,6 +140,11 @@ def first_value(data, place):
     return None
 
 
+def has_values(data, quotient):
+    """Whether the first coefficients of a QUOTIENT at the PLACEs are the VALUES, not checked."""
+    return all(coefficients_at(quotient, place, len(values)) == values for place, values in data)
+
+
 def many_values(data):
     """N: how many VALUES there are."""
     need_data(data)
@@ -152,7 +162,7 @@ def does_have(data, quotient):
     """Whether the first coefficients of the QUOTIENT at the PLACEs are the VALUES."""
     need_data(data)
     need_quotient(quotient)
-    return all(coefficients_at(quotient, place, len(values)) == values for place, values in data)
+    return has_values(data, quotient)
 
 
 def joined(data, place, value):

@@ -26,6 +26,11 @@ def is_number(value):
     return isinstance(value, tuple) and len(value) == 2 and is_fraction(value[0]) and is_fraction(value[1])
 
 
+def is_bound(value):
+    """Whether it, whatever it is, is a fraction above 0."""
+    return is_fraction(value) and value[0] > 0
+
+
 def need_whole(given):
     """Refuse what is no whole number."""
     if not is_whole(given):
@@ -46,7 +51,7 @@ def need_fraction(given):
 
 def need_bound(given):
     """Refuse what is no fraction above 0."""
-    if not is_fraction(given) or given[0] <= 0:
+    if not is_bound(given):
         raise InvalidFraction(given)
 
 

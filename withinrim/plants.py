@@ -1,12 +1,12 @@
 """Plants: told zeros and poles in the disc with a REST that has none there, and the QUOTIENT that they make."""
 
-from withinrim.data import is_place
+from withinrim.data import has_place, is_place
 from withinrim.errors import InvalidPlant
 from withinrim.numbers import is_whole
 from withinrim.plain import NOUGHT, UNIT, less, mirror
-from withinrim.quotients import brought_down, is_quotient
+from withinrim.quotients import brought_down, is_quotient, mirror_quotient
 from withinrim.rootcounts import closed_count
-from withinrim.rows import mirror_row, product_of
+from withinrim.rows import product_of
 
 MOST_TIMES = 6
 
@@ -21,14 +21,9 @@ def is_lot_of_pairs(value):
         place, many = each
         if not is_place(place) or not is_whole(many) or many not in (1, 2, 3):
             return False
-        if any(place == ahead for ahead, _ in value[:index]):
+        if has_place(value[:index], place):
             return False
     return True
-
-
-def has_place(pairs, place):
-    """Whether the PLACE is that of one of the pairs."""
-    return any(each == place for each, _ in pairs)
 
 
 def is_rest(value):
@@ -87,6 +82,12 @@ def mirror_pairs(pairs):
     return tuple((mirror(place), many) for place, many in pairs)
 
 
+def is_real_in(plant):
+    """Whether the plant's QUOTIENT is its own mirrored one, not checked."""
+    quotient = quotient_in(plant)
+    return quotient == mirror_quotient(quotient)
+
+
 def quotient_of_plant(plant):
     """The plant's QUOTIENT p: REST times all z - PLACE of ZEROS, over those of POLES."""
     need_plant(plant)
@@ -97,11 +98,10 @@ def mirrored_plant(plant):
     """The plant with all NUMBERs mirrored, in the same order."""
     need_plant(plant)
     zeros, poles, rest = plant
-    return (mirror_pairs(zeros), mirror_pairs(poles), (mirror_row(rest[0]), mirror_row(rest[1])))
+    return (mirror_pairs(zeros), mirror_pairs(poles), mirror_quotient(rest))
 
 
 def is_real_plant(plant):
     """Whether the plant's QUOTIENT is its own mirrored one."""
     need_plant(plant)
-    top, under = quotient_in(plant)
-    return top == mirror_row(top) and under == mirror_row(under)
+    return is_real_in(plant)

@@ -53,6 +53,11 @@ def coefficients_at(quotient, number, many):
     return series_over(above[:many] + (NOUGHT,) * (many - len(above)), below)
 
 
+def mirror_quotient(quotient):
+    """The QUOTIENT with all NUMBERs mirrored, not checked."""
+    return (mirror_row(quotient[0]), mirror_row(quotient[1]))
+
+
 def quotient_of(top, under):
     """TOP over UNDER, reduced."""
     need_row(top)
@@ -128,4 +133,4 @@ def coefficients(quotient, number, many):
 def mirrored_quotient(quotient):
     """The QUOTIENT with all NUMBERs mirrored."""
     need_quotient(quotient)
-    return (mirror_row(quotient[0]), mirror_row(quotient[1]))
+    return mirror_quotient(quotient)
