@@ -434,13 +434,19 @@ def indexes_of(data):
     return [(pair(place), a, values) for place, values in data for a in range(len(values))]
 
 
+KERNELS = {}
+
+
 def kernel_by_h(z, y, a, b):
     """The coefficient of h^a times the mirrored k to b in 1 / (1 - (z + h)(y + k)'), by clearing the lower part."""
     if a < 0 or b < 0:
         return Pair(0)
-    total = Pair(1 if a == b == 0 else 0)
-    total = total + y.mirrored() * kernel_by_h(z, y, a - 1, b) + z * kernel_by_h(z, y, a, b - 1)
-    return (total + kernel_by_h(z, y, a - 1, b - 1)) / (Pair(1) - z * y.mirrored())
+    key = (z.number(), y.number(), a, b)
+    if key not in KERNELS:
+        total = Pair(1 if a == b == 0 else 0)
+        total = total + y.mirrored() * kernel_by_h(z, y, a - 1, b) + z * kernel_by_h(z, y, a, b - 1)
+        KERNELS[key] = (total + kernel_by_h(z, y, a - 1, b - 1)) / (Pair(1) - z * y.mirrored())
+    return KERNELS[key]
 
 
 def own_tables(data):
@@ -641,3 +647,136 @@ def product_of_sizes(place, pairs):
         for _ in range(many):
             total *= ((at - x) / (Pair(1) - x.mirrored() * at)).size()
     return total
+
+
+def own_word(table):
+    """ "none", "one" or "many" as a TABLE comes out below 0, only from 0 on, or above 0, cleared row by row."""
+    table, rank = [[pair(each) for each in line] for line in table], 0
+    for at in range(len(table)):
+        line = table[at]
+        weight = line[at].re
+        if weight < 0 or (weight == 0 and any(each != Pair(0) for each in line)):
+            return "none"
+        if weight > 0:
+            rank += 1
+            factors = [other[at] / Pair(weight) for other in table]
+            table = [[x - factor * y for x, y in zip(other, line)] for factor, other in zip(factors, table)]
+            table[at] = [Pair(0)] * len(table)
+    return "many" if rank == len(table) else "one"
+
+
+def own_standing(data, bound):
+    """The standing of DATA for a bound, a Fraction, in the tests' own arithmetic."""
+    return own_word(own_table(data, bound) if data else ())
+
+
+def own_tame_table(data):
+    """V S + S V' by the tests' own arithmetic."""
+    if not data:
+        return ()
+    s, v = own_tables(data)
+    return plain_table([[x + y for x, y in zip(one, two)]
+                        for one, two in zip(plain_product(v, s), plain_product(s, turned_over(v)))])
+
+
+WRONG_COUNTS = STRANGE + BOOLS + (0, -1, 61, 100, -60, 10 ** 50, (1, 1), ONE, "1", (5,), [5])
+
+OPPOSITES = (
+    ("up to", "above"), ("some", "none"), ("one", "not one"), ("many", "not many"), ("answer", "no answer"), ("value", "no value"),
+    ("nonnegative", "below"), ("tame", "not tame"), ("steadied", "not steadied"), ("keeps", "fails"), ("kept", "not kept"),
+)
+
+
+def both_of(words, about, truth):
+    """A claim with its truth, and its opposite with the other one."""
+    return [((words[0],) + about, truth), ((words[1],) + about, not truth)]
+
+
+def quotient_claims(seed):
+    """Claims about QUOTIENTs and bounds, and whether they are true."""
+    source, found = random.Random(seed), []
+    for factor in (Pair(1), Pair(2), Pair(Fraction(1, 2), Fraction(1, 2)), Pair(Fraction(3, 5), Fraction(4, 5))):
+        for degree in (0, 1, 3):
+            quotient = rim_one(factor, some_places(source, degree, (2, 3)))
+            for part in (Fraction(9, 10), Fraction(1), Fraction(10 ** 12 - 1, 10 ** 12), Fraction(3)):
+                found += both_of(("up to", "above"), (quotient, told(factor.size() * part)), part >= 1)
+    for under in (row(1, -1), row(1, -3), row(1, 0, 1), row(1, Pair(1, 2), 5), row(1, Fraction(-5, 2), 1)):
+        for top in (row(1), row(0, Fraction(1, 100))):
+            found += both_of(("up to", "above"), ((top, under), (100, 1)), False)
+    found += both_of(("up to", "above"), (((), row(1)), (1, 10 ** 20)), True)
+    return found
+
+
+def data_claims(seed):
+    """Claims about DATA, and whether they are true, as their tables tell."""
+    source, found = random.Random(seed), []
+    for counts in ((), (1,), (2,), (3,), (1, 1), (2, 1), (1, 1, 1), (2, 2, 2), (1, 1, 1, 1, 1, 1)):
+        for factor in (Pair(1), Pair(Fraction(1, 2), Fraction(1, 2))):
+            shape = shape_at(source, counts)
+            for degree in (0, 1, sum(counts) + 1):
+                quotient = rim_one(factor, some_places(source, degree, (2, 3)))
+                data, bound = data_from(quotient, shape), factor.size() * source.choice((1, 1, Fraction(5, 4), Fraction(9, 10)))
+                about, word = (data, told(bound)), own_standing(data, bound)
+                found += both_of(("some", "none"), about, word != "none")
+                found += both_of(("one", "not one"), about, word == "one")
+                found += both_of(("many", "not many"), about, word == "many")
+                found += both_of(("answer", "no answer"), about + (quotient,), bound >= factor.size())
+                other = rim_one(factor, some_places(source, 2, (2, 3)))
+                found += both_of(("answer", "no answer"), about + (other,), bound >= factor.size() and data_from(other, shape) == data)
+                places = [each.number() for each in some_places(source, 1, (7,))] + [place for place, _ in data[:1]]
+                for place in places:
+                    there = quotient_at(quotient, pair(place)).number()
+                    for number in (there, num(Fraction(1, 9), Fraction(1, 9)), num(3)):
+                        first = [values[0] for each, values in data if each == place]
+                        truth = word != "none" and first[0] == number if first else own_standing(data + ((place, (number,)),), bound) != "none"
+                        found += both_of(("value", "no value"), about + (place, number), truth)
+    return found
+
+
+def table_claims(seed):
+    """Claims about TABLEs, and about tame series that have DATA."""
+    source, found = random.Random(seed), both_of(("nonnegative", "below"), ((),), True)
+    for signs in ((1,), (-1,), (), (1, 1), (1, -1), (1, 1, 1), (1, 1, -1), (-1, -1), (1, 1, 1, 1, 1), (1, 1, 1, 1, 1, -1)):
+        for many in range(max(1, len(signs)), min(6, len(signs) + 2) + 1):
+            table, counts = some_table(source, many, signs)
+            found += both_of(("nonnegative", "below"), (table,), counts[2] == 0)
+    found += both_of(("tame", "not tame"), ((),), True)
+    for counts in ((1,), (2,), (3,), (1, 1), (2, 1), (1, 1, 1), (2, 2, 2)):
+        for _ in range(3):
+            shape = shape_at(source, counts)
+            held = rim_one(rim(Fraction(source.randint(1, 9), 4)), some_places(source, source.randint(0, 2), (2, 3)))
+            one, two = [[pair(each) for each in some] + [Pair(0)] * 3 for some in held]
+            tame = made_quotient(cut(x + y for x, y in zip(two, one)), cut(x - y for x, y in zip(two, one)))
+            some = tuple((place.number(), tuple((some_pair(source, 3, 3) * Pair(Fraction(1, 4)) + Pair(Fraction(1, 2))).number() for _ in range(many)))
+                         for place, many in shape)
+            for data in (data_from(tame, shape), some):
+                found += both_of(("tame", "not tame"), (data,), own_word(own_tame_table(data)) != "none")
+    return found
+
+
+def loop_claims(seed):
+    """Claims about loops and plants; those of SURE's process and a controller c alone by hand."""
+    found, process = [], (row(0, -2), row(1, -2))
+    for c in (Fraction(-3, 4), Fraction(-1), Fraction(-5, 4), Fraction(-1, 2), Fraction(-3, 2), Fraction(-1, 4), Fraction(-2), Fraction(5)):
+        controller, slope = (row(c), row(1)), 2 + 2 * c
+        steadied = abs(slope) < 1
+        found += both_of(("steadied", "not steadied"), (process, controller), steadied)
+        for bound in (Fraction(1), Fraction(4), Fraction(5), Fraction(9), Fraction(40)):
+            # Q is 1 - 2 z over 1 - (2 + 2 c) z, T - 2 c z over it: greatest at 1 or - 1.
+            left = steadied and max(1 / abs(1 - slope), 3 / abs(1 + slope)) ** 2 <= bound
+            echo = steadied and (2 * abs(c) / (1 - abs(slope))) ** 2 <= bound
+            for kind, truth in (("left", left), ("echo", echo)):
+                found += both_of(("keeps", "fails"), (process, controller, kind, told(bound)), truth)
+    found += both_of(("steadied", "not steadied"), (process, (row(1, -2), row(1))), False)
+    found += both_of(("keeps", "fails"), (process, ((), row(1)), "echo", (1, 1)), False)
+    found += both_of(("keeps", "fails"), (((), row(1)), ((), row(1)), "left", (1, 1)), True)
+    found += both_of(("keeps", "fails"), (((), row(1)), ((), row(1)), "echo", (1, 9)), True)
+    for plant in list(plant_cases(seed))[::2]:
+        for kind in ("left", "echo"):
+            for bound in ((1, 2), (1, 1), (4, 1), (30, 1), (10 ** 5, 1)):
+                found += both_of(("kept", "not kept"), (plant, kind, bound), own_standing(own_data_of(plant, kind), frac(bound)) != "none")
+    return found
+
+
+def all_claims(seed):
+    return quotient_claims(seed) + data_claims(seed + 1) + table_claims(seed + 2) + loop_claims(seed + 3)

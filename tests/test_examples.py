@@ -179,6 +179,44 @@ BOOKS = '''
 raises NotNow()
 '''
 
+PICTURES = '''
+>>> from withinrim.pictures import places_picture, values_picture
+>>> values_picture(two, less, 4)
+' .. \\n.*..\\n.*..\\n .. \\n'
+>>> places_picture(edge, zero, 2)
+'..\\n..\\n'
+'''
+
+CONSOLE = '''
+>>> from withinrim.console import Console
+>>> console = Console()
+>>> [console.say("put a 0 0"), console.say("put b 1/2 1/4"), console.say("at -1/2"), console.say("answer []/[1]"), console.say("back [0,1]/[1]"), console.say("put a 1/3 0")]
+[('many',), ('many',), ('centre -3/28 square 25/196',), ('[0 1/2]/[1]',), ('no answer',), ('there already',)]
+>>> [console.say("change b 1/2"), console.say("one"), console.say("standing"), console.say("along -1/2 -1/2"), console.say("undo"), console.say("put c 2 0"), console.say("show me")]
+[('one',), ('[0 1]/[1]',), ('one, rank 1 of 2',), ('one',), ('many',), ('wrong word 2',), ('no such line',)]
+'''
+
+CLAIMS = '''
+>>> from withinrim.certificates import paper_for, settled
+>>> from withinrim.checker import accepts
+>>> from withinrim.claims import is_claim, opposite
+>>> many, sole, lost = ("many", two, (1, 1)), ("one", edge, (1, 1)), ("none", far, (1, 1))
+>>> [is_claim(many), is_claim(("many", two)), is_claim(("many", two, (0, 1))), opposite(many) == ("not many", two, (1, 1)), opposite(opposite(sole)) == sole]
+[True, False, False, True, True]
+>>> minus = ((-1, 1), (0, 1))
+>>> [accepts(many, (((zero, half), (unit,)), ((zero, half), (unit,)))), accepts(many, paper_for(many)), accepts(sole, (line, (unit, minus))), accepts(sole, (line, (zero, zero))), accepts(lost, (unit, minus)), paper_for(opposite(lost))]
+[False, True, True, False, True, None]
+>>> [accepts(("not one", two, (1, 1)), ("many", paper_for(many))), accepts(("not one", far, (1, 1)), ("none", (unit, minus))), settled(("some", far, (1, 1)))[0] == lost, settled(("one", far, (4, 1)))[0][0]]
+[True, True, True, 'one']
+>>> double = ((zero, ((2, 1), (0, 1))), (unit,))
+>>> [accepts(("above", double, (1, 1)), ("place", ((2, 3), (0, 1)))), accepts(("above", double, (1, 1)), ("place", half)), accepts(("above", double, (1, 1)), ("roots", 0)), accepts(("up to", double, (4, 1)), ()), accepts(("up to", double, (3, 1)), ())]
+[True, False, False, True, False]
+>>> [accepts(("no answer", two, (1, 1), line), ("misses", 1)), accepts(("no answer", two, (4, 1), double), ("misses", 0)), accepts(("value", edge, (1, 1), quarter, quarter), line), accepts(("no value", edge, (1, 1), half, unit), ("told", 1))]
+[True, False, True, True]
+>>> [accepts(("no value", (), (1, 1), half, double[0][1]), ("more", (unit,))), accepts(("nonnegative", ((unit, unit), (unit, unit))), (((1, 1), (unit, unit)),)), accepts(("below", ((zero, unit), (unit, zero))), (unit, minus)), accepts(5, None)]
+[True, True, True, False]
+'''
+
 
 def examples(text):
     """Pairs of a row to run and the answer that stands below it, None for none."""
@@ -224,6 +262,15 @@ class ExamplesTest(unittest.TestCase):
 
     def test_books(self):
         self.run_all(NAMES + BOOKS)
+
+    def test_pictures(self):
+        self.run_all(NAMES + PICTURES)
+
+    def test_console(self):
+        self.run_all(CONSOLE)
+
+    def test_claims(self):
+        self.run_all(NAMES + CLAIMS)
 
     def test_readme(self):
         text = (pathlib.Path(__file__).resolve().parent.parent / "README.md").read_text(encoding="ascii")

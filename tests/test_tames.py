@@ -6,8 +6,8 @@ from fractions import Fraction
 
 from tests.support import (
     BOOLS, HALF, ONE, SHAPES, STRANGE, WRONG_DATA, WRONG_QUOTIENTS, Pair, check_refusals, cut, data_from, given, indexed,
-    made_quotient, num, out_of, own_tables, pair, plain_product, plain_table, quotient_at, refused, rim, rim_one, row,
-    shape_at, some_pair, some_places, turned_over,
+    made_quotient, num, out_of, own_tame_table, pair, quotient_at, refused, rim, rim_one, row,
+    shape_at, some_pair, some_places,
 )
 from withinrim.answers import some_answer, the_one
 from withinrim.data import does_have, is_data, table_of
@@ -20,15 +20,6 @@ from withinrim.tables import is_table
 from withinrim.tames import held_data, held_of, is_tame, tame_of, tame_standing, tame_table
 
 ZERO, DOUBLE, LINE = num(0), num(2), (row(0, 1), row(1))
-
-
-def own_tame_table(data):
-    """V S + S V' by the tests' own arithmetic."""
-    if not data:
-        return ()
-    s, v = own_tables(data)
-    return plain_table([[x + y for x, y in zip(one, two)]
-                        for one, two in zip(plain_product(v, s), plain_product(s, turned_over(v)))])
 
 
 def own_tame(quotient):

@@ -67,6 +67,17 @@ def keeps_to(quotient, bound):
     return closed_count(quotient[1]) == 0 and never_below(shortened(gap_of(quotient, bound)[0]))
 
 
+def above_in(quotient, bound):
+    """What shows that a QUOTIENT is not up to a bound, not checked; None if it is."""
+    many = closed_count(quotient[1])
+    if many > 0:
+        return ("roots", many)
+    gap = shortened(gap_of(quotient, bound)[0])
+    if never_below(gap):
+        return None
+    return ("place", place_above(quotient, bound, place_below(gap)))
+
+
 def rim_gap(quotient, bound=(1, 1)):
     """The gap: the bound times UNDER's size squared less TOP's, round the rim."""
     need_quotient(quotient)
@@ -86,10 +97,4 @@ def above_at(quotient, bound=(1, 1)):
     """None if it is up to the bound; otherwise ("roots", MANY) or ("place", PLACE), which show that it is not."""
     need_quotient(quotient)
     need_bound(bound)
-    many = closed_count(quotient[1])
-    if many > 0:
-        return ("roots", many)
-    gap = shortened(gap_of(quotient, bound)[0])
-    if never_below(gap):
-        return None
-    return ("place", place_above(quotient, bound, place_below(gap)))
+    return above_in(quotient, bound)

@@ -96,6 +96,21 @@ def is_square(value, many):
     return any(each != NOUGHT for each in mix)
 
 
+def below_in(table):
+    """A mix that comes out below 0, of seven rows, too, not checked; None if the TABLE is nonnegative."""
+    squares, rest, at = clearing(table)
+    if at is None:
+        return None
+    mix = mix_below_at(rest, at)
+    # From the last square back: with such a number at its lead the mix comes out as nought in it, so as in the rest.
+    for lead, _, square in reversed(squares):
+        total = NOUGHT
+        for each, part in zip(mix, square):
+            total = plus(total, times(each, part))
+        mix[lead] = less(mix[lead], total)
+    return tuple(mix)
+
+
 def squares_of(table):
     """The stepped squares; None unless the TABLE is nonnegative."""
     need_table(table)
@@ -108,17 +123,7 @@ def squares_of(table):
 def mix_below(table):
     """A mix that comes out below 0; None if the TABLE is nonnegative."""
     need_table(table)
-    squares, rest, at = clearing(table)
-    if at is None:
-        return None
-    mix = mix_below_at(rest, at)
-    # From the last square back: with such a number at its lead the mix comes out as nought in it, so as in the rest.
-    for lead, _, square in reversed(squares):
-        total = NOUGHT
-        for each, part in zip(mix, square):
-            total = plus(total, times(each, part))
-        mix[lead] = less(mix[lead], total)
-    return tuple(mix)
+    return below_in(table)
 
 
 def signed_squares(table):

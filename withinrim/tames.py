@@ -28,6 +28,22 @@ def table_for_tame(data):
     return tuple(tuple(plus(x, y) for x, y in zip(one, two)) for one, two in zip(rows, turned_rows(rows)))
 
 
+def tame_behind(quotient):
+    """(1 + f) / (1 - f) of a QUOTIENT f, not 1 at 0, not checked."""
+    top, under = quotient
+    return brought_down(sum_of(under, top), difference(under, top))
+
+
+def held_pairs(data):
+    """The DATA of (p - 1) / (p + 1) for p that has DATA, no first value being - 1, not checked."""
+    found = []
+    for place, values in data:
+        above = (less(values[0], UNIT),) + values[1:]
+        below = (plus(values[0], UNIT),) + values[1:]
+        found.append((place, series_over(above, below)))
+    return tuple(found)
+
+
 def is_tame(value):
     """Whether it, whatever it is, is a QUOTIENT that is tame."""
     return is_quotient(value) and held_if_tame(value) is not None
@@ -36,10 +52,9 @@ def is_tame(value):
 def tame_of(quotient):
     """(1 + f) / (1 - f) of the held QUOTIENT f, not 1 at 0."""
     need_quotient(quotient)
-    top, under = quotient
-    if not keeps_to(quotient, ONE) or top[:1] == (UNIT,):
+    if not keeps_to(quotient, ONE) or quotient[0][:1] == (UNIT,):
         raise NotNow()
-    return brought_down(sum_of(under, top), difference(under, top))
+    return tame_behind(quotient)
 
 
 def held_of(quotient):
@@ -71,9 +86,4 @@ def held_data(data):
     need_data(data)
     if any(values[0][0][0] < 0 for _, values in data):
         raise NotNow()
-    found = []
-    for place, values in data:
-        above = (less(values[0], UNIT),) + values[1:]
-        below = (plus(values[0], UNIT),) + values[1:]
-        found.append((place, series_over(above, below)))
-    return tuple(found)
+    return held_pairs(data)
