@@ -356,7 +356,12 @@ class RefusalTest(unittest.TestCase):
         check_bound_left_out(self, loop_standing, free, "left")
         self.assertEqual([loop_standing(free, "left"), loop_standing(SURE, "left"), loop_standing(free, "echo")], ["one", "none", "many"])
         self.assertEqual([some_controller(free, "left"), real_controller(free, "left"), some_controller(SURE, "echo")], [IDLE, IDLE, None])
-        self.assertEqual(some_controller(free, "left", (1, 1)), some_controller(free, "left"))
+        # The least bound is 100 / 81 here, so there is a controller for 2.
+        near = (START, ((num(Fraction(9, 10)), 1),), UNIT)
+        for call in (some_controller, real_controller):
+            self.assertEqual(call(free, "left", (1, 1)), call(free, "left"))
+            self.assertIsNone(call(near, "left"))
+            self.assertIsNotNone(call(near, "left", (2, 1)))
         self.assertIsNone(some_controller(free, "left", (99, 100)))
         half = (row(Fraction(1, 2)), row(1))
         # With the controller 1 / 2 the echo is z / 2 over 1 + z / 2, 1 in size at - 1.

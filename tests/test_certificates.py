@@ -10,7 +10,7 @@ from withinrim.checker import accepts
 from withinrim.claims import opposite
 from withinrim.errors import InvalidClaim
 
-ZERO, ONCE = num(0), (1, 1)
+ZERO, MINUS, ONCE = num(0), num(-1), (1, 1)
 TWO, EDGE = ((ZERO, (ZERO,)), (HALF, (num(Fraction(1, 4)),))), ((ZERO, (ZERO,)), (HALF, (HALF,)))
 FAR = ((ZERO, (ZERO,)), (HALF, (ONE,)))
 LINE, IDLE, BACK = (row(0, 1), row(1)), ((), row(1)), (row(-1), row(1))
@@ -72,7 +72,7 @@ class PaperTest(unittest.TestCase):
             (("answer", (), ONCE, IDLE), True), (("no answer", EDGE, (4, 1), (row(0, 2), row(1))), True), (("no answer", EDGE, (1, 2), LINE), True),
             # Tame ones with roots of UNDER on the rim, and on the edge.
             (("tame", ((ZERO, (ONE, num(2))),)), True), (("not tame", ((ZERO, (ONE, num(3))),)), True), (("tame", ((HALF, (num(0, 5),)),)), True), (("tame", ((HALF, (num(0, 5), ONE)),)), False),
-            (("not tame", ((HALF, (num(-1),)),)), True), (("not tame", ((ZERO, (ONE,)), (HALF, (num(-1, 3),)))), True), (("tame", ((HALF, (ZERO, ZERO)),)), True),
+            (("not tame", ((HALF, (num(-1),)),)), True), (("tame", ((HALF, (num(-1),)),)), False), (("tame", ((ZERO, (ONE, MINUS)),)), True), (("tame", ((HALF, (num(1, -5),)),)), True), (("not tame", ((ZERO, (ONE,)), (HALF, (num(-1, 3),)))), True), (("tame", ((HALF, (ZERO, ZERO)),)), True),
             # Loops with a root of the loop row on the rim; bounds below, at and above the least.
             (("steadied", PROCESS, (row(Fraction(-1, 2)), row(1))), False), (("fails", PROCESS, (row(Fraction(-3, 2)), row(1)), "echo", (1000, 1)), True), (("keeps", PROCESS, BACK, "left", (9, 1)), True),
             (("fails", PROCESS, BACK, "left", (9 * 10 ** 20 - 1, 10 ** 20)), True), (("kept", SURE, "left", (4, 1)), True), (("not kept", SURE, "left", (4 * 10 ** 20 - 1, 10 ** 20)), True), (("kept", LATER, "left", (2, 1)), True),

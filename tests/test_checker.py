@@ -160,6 +160,9 @@ class TakesTest(unittest.TestCase):
         self.check(("no value", (), ONCE, HALF, ONE), (), (("more", (ONE,)), ("more", (MINUS,))))
         # 0 at 0 and 1 at 1 / 2 is FAR.
         self.check(("no value", ((ZERO, (ZERO,)),), ONCE, HALF, ONE), (("more", (ONE, MINUS)),), (("more", (MINUS, MINUS)), ("none", (ONE,)), ("more", (ONE,))))
+        # The first VALUE at the PLACE alone counts.
+        self.check(("no value", ((ZERO, (ZERO, HALF)),), ONCE, ZERO, HALF), (("told", 0),))
+        self.check(("no value", ((ZERO, (ZERO, HALF)),), ONCE, ZERO, ZERO), (), (("told", 0),))
         self.check(("no value", EDGE, ONCE, HALF, HALF), (), (("told", 1), ("more", (ONE, MINUS, ZERO))))
 
     def test_seven_values(self):

@@ -3,7 +3,7 @@
 from itertools import combinations
 
 from withinrim.answers import one_for, values_told
-from withinrim.data import MOST_AT_PLACE, MOST_PAIRS, MOST_VALUES, need_place
+from withinrim.data import MOST_AT_PLACE, MOST_VALUES, need_place
 from withinrim.errors import Alike, InvalidName, InvalidValues, NotNow, TooMany
 from withinrim.numbers import is_number, need_bound, need_number
 from withinrim.plain import less, order, size_of
@@ -36,8 +36,8 @@ def need_values(given):
 
 
 def need_room(entries):
-    """Refuse more entries, or more VALUES, than may stand."""
-    if len(entries) > MOST_PAIRS or sum(len(values) for _, _, values in entries) > MOST_VALUES:
+    """Refuse more VALUES than may stand; each entry has one, so there are no more entries either."""
+    if sum(len(values) for _, _, values in entries) > MOST_VALUES:
         raise TooMany()
 
 

@@ -6,7 +6,7 @@ from withinrim.answers import values_told, word_with
 from withinrim.data import has_place, need_data, need_place
 from withinrim.errors import InvalidCount
 from withinrim.numbers import is_whole, need_bound, need_number
-from withinrim.plain import less, number_from, order, scaled, size_of, whole_parts
+from withinrim.plain import number_from, scaled, whole_parts
 from withinrim.rows import value_at
 from withinrim.steps import rows_along, walk
 
@@ -36,22 +36,34 @@ def side_for(bound):
     return isqrt((n - 1) // m) + 1
 
 
-def sign_of_value(found, number, bound):
-    """The sign of a NUMBER at a PLACE where the values are (CENTRE, SQUARE), or None for none."""
-    if found is not None:
-        centre, square = found
-        side = order(size_of(less(number, centre)), square)
-        if side <= 0:
-            return "o" if side == 0 else "*"
-    return "." if order(size_of(number), bound) <= 0 else " "
+def disc_at(found, count, side):
+    """(ACROSS, UP, M, WEIGHT, EDGE), all whole, of a disc (CENTRE, SQUARE), or of None.
+
+    The number X + Y i, times side and over count, lies in the disc exactly if WEIGHT times the sum of the squares of
+    X M - ACROSS and of Y M - UP is up to EDGE.
+    """
+    if found is None:
+        # No number at all is that near.
+        return (0, 0, 1, 1, -1)
+    across, up, m = whole_parts((found[0],))
+    n, weight = found[1]
+    return (across[0] * count, up[0] * count, m * side, weight, n * m * m * count * count)
 
 
 def value_rows(data, place, count, bound):
     """The rows of the picture of values, not checked."""
-    found, side, parts, lines = values_told(data, place, bound), side_for(bound), parts_of(count), []
+    side, parts, lines = side_for(bound), parts_of(count), []
+    across, up, m, weight, edge = disc_at(values_told(data, place, bound), count, side)
     for y in reversed(parts):
-        numbers = [number_from(side * x, side * y, count) for x in parts]
-        lines.append("".join([sign_of_value(found, each, bound) for each in numbers]))
+        line = ""
+        for x in parts:
+            gap = weight * ((x * m - across) * (x * m - across) + (y * m - up) * (y * m - up)) - edge
+            if gap <= 0:
+                line += "o" if gap == 0 else "*"
+            else:
+                reach = side * side * (x * x + y * y) * bound[1]
+                line += "." if reach <= bound[0] * count * count else " "
+        lines.append(line)
     return tuple(lines)
 
 

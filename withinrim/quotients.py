@@ -4,7 +4,7 @@ from withinrim.errors import InvalidCount, InvalidQuotient, NoSeries, NotNow
 from withinrim.numbers import is_whole, need_number
 from withinrim.plain import NOUGHT, UNIT, over, series_over
 from withinrim.rows import (
-    common, difference, divided, is_row, mirror_row, moved_to, multiple, need_row, product_of, sum_of, value_at,
+    common, difference, divided, first_at, is_row, mirror_row, multiple, need_row, product_of, sum_of, value_at,
 )
 
 MOST_COEFFICIENTS = 24
@@ -47,10 +47,10 @@ def degree_of(quotient):
 def coefficients_at(quotient, number, many):
     """So many coefficients at a NUMBER, not checked; None at a root of UNDER."""
     top, under = quotient
-    above, below = moved_to(top, number), moved_to(under, number)
+    above, below = first_at(top, number, many), first_at(under, number, many)
     if below[0] == NOUGHT:
         return None
-    return series_over(above[:many] + (NOUGHT,) * (many - len(above)), below)
+    return series_over(above + (NOUGHT,) * (many - len(above)), below)
 
 
 def mirror_quotient(quotient):

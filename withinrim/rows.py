@@ -165,14 +165,30 @@ def value_at(row, number):
     return total
 
 
-def moved_to(row, number):
-    """The numbers of a ROW in powers of h at the number + h, not checked."""
-    numbers = list(row)
-    last = len(row) - 1
-    for done in range(last):
+def first_at(row, number, many):
+    """The first NUMBERs, so many where there are, of a ROW in powers of h at the NUMBER + h, not checked."""
+    real, turned, bottom = whole_parts(row)
+    across, up, m = whole_parts((number,))
+    x, y, last = across[0], up[0], len(row) - 1
+    # Taken at m times as far out, and times m as often as the degree tells, all is whole: each is reduced just once.
+    power = 1
+    for at in reversed(range(last)):
+        power = power * m
+        real[at], turned[at] = real[at] * power, turned[at] * power
+    bottom = bottom * power
+    found, scale = [], 1
+    for done in range(min(many, len(row))):
         for at in reversed(range(done, last)):
-            numbers[at] = plus(numbers[at], times(number, numbers[at + 1]))
-    return tuple(numbers)
+            a, b = real[at + 1], turned[at + 1]
+            real[at], turned[at] = real[at] + x * a - y * b, turned[at] + x * b + y * a
+        found.append(number_from(real[done] * scale, turned[done] * scale, bottom))
+        scale = scale * m
+    return tuple(found)
+
+
+def moved_to(row, number):
+    """The NUMBERs of a ROW in powers of h at the NUMBER + h, not checked."""
+    return first_at(row, number, len(row))
 
 
 def mirror_row(row):

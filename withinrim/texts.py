@@ -100,11 +100,9 @@ def row_in(text):
 
 def quotient_in_text(text):
     """The QUOTIENT of which it is the text; None if it is none."""
-    at = text.find("]/[")
-    if at < 0:
-        return None
-    top, under = row_in(text[:at + 1]), row_in(text[at + 2:])
-    return (top, under) if is_quotient((top, under)) else None
+    top, _, under = text.partition("]/[")
+    found = (row_in(top + "]"), row_in("[" + under))
+    return found if is_quotient(found) else None
 
 
 def number_text(number):
