@@ -2,7 +2,7 @@
 
 from withinrim.answers import answer_for, back_from, word_with
 from withinrim.books import Book, is_name
-from withinrim.data import count_of, first_value
+from withinrim.data import MOST_AT_PLACE, count_of, first_value
 from withinrim.errors import Alike, InvalidLine, NotNow, TooMany
 from withinrim.helds import keeps_to
 from withinrim.pictures import is_count, value_rows
@@ -18,7 +18,6 @@ LINES = {
     "undo": (), "show": (), "standing": (), "clashes": (), "one": (), "at": ("place",), "along": ("place", "value"),
     "answer": ("quotient",), "back": ("quotient",), "draw": ("place", "count"),
 }
-MOST_VALUES = 3
 
 
 def read_as(kind, word):
@@ -45,12 +44,12 @@ def kinds_in(words):
         return None
     kinds = LINES[words[0]]
     more = len(words) - 1 - len(kinds)
-    if more > 0 and more < MOST_VALUES and kinds[-1:] == ("values",):
+    if more > 0 and more < MOST_AT_PLACE and kinds[-1:] == ("values",):
         return kinds + ("values",) * more
     return kinds if more == 0 else None
 
 
-def answer_put(book, told):
+def tell_put(book, told):
     """Put a new entry."""
     try:
         book.put(told[0], told[1], tuple(told[2:]))
@@ -61,7 +60,7 @@ def answer_put(book, told):
     return (book.standing(),)
 
 
-def answer_change(book, told):
+def tell_change(book, told):
     """Change an entry."""
     try:
         book.change(told[0], tuple(told[1:]))
@@ -72,7 +71,7 @@ def answer_change(book, told):
     return (book.standing(),)
 
 
-def answer_strike(book, told):
+def tell_strike(book, told):
     """Strike an entry."""
     try:
         book.strike(told[0])
@@ -81,35 +80,35 @@ def answer_strike(book, told):
     return (book.standing(),)
 
 
-def answer_undo(book, told):
+def tell_undo(book, told):
     """Undo the last deed."""
     return (book.standing(),) if book.undo() else ("nothing to undo",)
 
 
-def answer_show(book, told):
+def tell_show(book, told):
     """All entries."""
     entries = book.entries()
     return tuple(name + " " + pair_as_text(place, values) for name, place, values in entries) or ("no entries",)
 
 
-def answer_standing(book, told):
+def tell_standing(book, told):
     """The standing, with the rank."""
     word, many = book.standing(), str(count_of(book.data()))
     return ("none of " + many,) if word == "none" else (word + ", rank " + str(book.rank()) + " of " + many,)
 
 
-def answer_clashes(book, told):
+def tell_clashes(book, told):
     """The least clashes."""
     return tuple(" ".join(names) for names in book.clashes()) or ("no clash",)
 
 
-def answer_one(book, told):
+def tell_one(book, told):
     """The one."""
     found = book.the_one()
     return ("not one",) if found is None else (quotient_as_text(found),)
 
 
-def answer_at(book, told):
+def tell_at(book, told):
     """The disc of the values at a place."""
     found = book.values_at(told[0])
     if found is None:
@@ -117,7 +116,7 @@ def answer_at(book, told):
     return ("centre " + number_as_text(found[0]) + " square " + fraction_as_text(found[1]),)
 
 
-def answer_along(book, told):
+def tell_along(book, told):
     """The standing of the entries and a value at a place, both together."""
     place, value = told
     data, bound = book.data(), book.bound()
@@ -128,7 +127,7 @@ def answer_along(book, told):
     return (word_with(rows_at(pairs, place, bound), left, value, bound),)
 
 
-def answer_answer(book, told):
+def tell_answer(book, told):
     """The answer for a QUOTIENT."""
     if book.standing() != "many":
         return ("not many",)
@@ -137,7 +136,7 @@ def answer_answer(book, told):
     return (quotient_as_text(answer_for(book.data(), told[0], book.bound())),)
 
 
-def answer_back(book, told):
+def tell_back(book, told):
     """What a QUOTIENT is the answer for."""
     if book.standing() != "many":
         return ("not many",)
@@ -145,7 +144,7 @@ def answer_back(book, told):
     return ("no answer",) if found is None else (quotient_as_text(found),)
 
 
-def answer_draw(book, told):
+def tell_draw(book, told):
     """The picture of values."""
     if book.standing() == "none":
         return ("none",)
@@ -153,9 +152,9 @@ def answer_draw(book, told):
 
 
 ACTIONS = {
-    "put": answer_put, "change": answer_change, "strike": answer_strike, "undo": answer_undo, "show": answer_show,
-    "standing": answer_standing, "clashes": answer_clashes, "one": answer_one, "at": answer_at, "along": answer_along,
-    "answer": answer_answer, "back": answer_back, "draw": answer_draw,
+    "put": tell_put, "change": tell_change, "strike": tell_strike, "undo": tell_undo, "show": tell_show,
+    "standing": tell_standing, "clashes": tell_clashes, "one": tell_one, "at": tell_at, "along": tell_along,
+    "answer": tell_answer, "back": tell_back, "draw": tell_draw,
 }
 
 
