@@ -54,6 +54,12 @@ def values_told(data, place, bound):
     return (over(plus(times(a, number), b), plus(times(c, number), d)), ZERO)
 
 
+def fits_along(data, place, value, bound):
+    """Whether some series up to the bound has DATA and the value at the place, not checked."""
+    found = values_told(data, place, bound)
+    return found is not None and order(size_of(less(value, found[0])), found[1]) <= 0
+
+
 def rows_of_many(data, bound):
     """The FOUR ROWS of DATA; refused unless the standing is "many"."""
     pairs, left = walk(data, bound)
@@ -158,8 +164,4 @@ def goes_along(data, place, value, bound=(1, 1)):
     need_place(place)
     need_number(value)
     need_bound(bound)
-    found = values_told(data, place, bound)
-    if found is None:
-        return False
-    centre, square = found
-    return order(size_of(less(value, centre)), square) <= 0
+    return fits_along(data, place, value, bound)

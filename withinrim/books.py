@@ -2,11 +2,10 @@
 
 from itertools import combinations
 
-from withinrim.answers import one_for, values_told
+from withinrim.answers import fits_along, one_for, values_told
 from withinrim.data import MOST_AT_PLACE, MOST_VALUES, need_place
 from withinrim.errors import Alike, InvalidName, InvalidValues, NotNow, TooMany
 from withinrim.numbers import is_number, need_bound, need_number
-from withinrim.plain import less, order, size_of
 from withinrim.steps import walk, word_of
 
 MOST_LETTERS = 8
@@ -160,8 +159,7 @@ class Book:
         """Whether some series up to the bound has the DATA and the number at the place."""
         need_place(place)
         need_number(number)
-        found = values_told(self.data(), place, self._bound)
-        return found is not None and order(size_of(less(number, found[0])), found[1]) <= 0
+        return fits_along(self.data(), place, number, self._bound)
 
     def clashes(self):
         """All least clashes, by how many names they have, then as Python compares them."""
